@@ -199,9 +199,10 @@ def random_weights(source, k, whole):
 class Maker:
     """Makes random expressions of told kinds."""
 
-    def __init__(self, source, whole=False, kinds=None, letters="abcxyz"):
+    def __init__(self, source, whole=False, kinds=None, letters="abcxyz", busy=False):
         self.source = source
         self.whole = whole
+        self.busy = busy
         self.kinds = kinds or KINDS
         self.letters = letters
 
@@ -217,6 +218,8 @@ class Maker:
             choices += ["fun"] * 6
         else:
             choices += ["draw"]
+        if self.busy:
+            choices += ["redex"] * 4
         return getattr(self, "make_" + self.source.choice(choices))(kind, deep - 1, env)
 
     def leaf(self, kind, fitting, env):
@@ -239,6 +242,14 @@ class Maker:
         if nums(given) + nums(kind) > 12:
             return self.make_case(kind, deep, env)
         return call(self.make(("to", given, kind), deep, env), self.make(given, deep, env))
+
+    def make_redex(self, kind, deep, env):
+        """A function that is handed something that it is likely to use."""
+        given = self.source.choice([kind for kind in self.kinds if nums(kind) <= 4])
+        if nums(given) + nums(kind) > 12:
+            return self.make_case(kind, deep, env)
+        x = self.source.choice(self.letters)
+        return call(fun(x, given, self.make(kind, deep, {**env, x: given})), self.make(given, deep - 1, env))
 
     def make_applied(self, kind, deep, env):
         """A name that is handed all that it wants, if there is one that answers so."""

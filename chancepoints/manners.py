@@ -1,0 +1,58 @@
+"""Programs run by three manners: by name, by need and by value."""
+
+from chancepoints.coding import code_of
+from chancepoints.errors import BadExpression, BadKind, BadManner, BadProgram
+from chancepoints.kinding import kind_for, kinds_in
+from chancepoints.machine import MANNERS, machine_of
+from chancepoints.nodes import is_shaped, nth_name, steps_and_parts, with_parts
+from chancepoints.terms import is_program, standing_names
+
+
+def _machine_behind(program, manner):
+    """A machine that has run the program by this manner."""
+    if not is_program(program):
+        raise BadProgram("no program")
+    kind = kind_for(program, {})
+    if kind[0] != "num":
+        raise BadKind("the program is not of a number")
+    if manner not in MANNERS:
+        raise BadManner("none of the three words")
+    return machine_of(code_of(program), manner, kind[1])
+
+
+def run_by(program, manner):
+    """The tuple of the chances of the numbers of a program that is run by a manner."""
+    return tuple(_machine_behind(program, manner).ends)
+
+
+def work_by(program, manner):
+    """The dict from the words of rows to how often such rows are done in the mean."""
+    return _machine_behind(program, manner).works
+
+
+def _first_unused(names):
+    at = 0
+    while nth_name(at) in names:
+        at += 1
+    return nth_name(at)
+
+
+def _in_value_form(expression, path, kinds, name):
+    """The expression at path in the program that has these kinds, in value form."""
+    parts = []
+    for steps, part in steps_and_parts(expression):
+        parts.append(_in_value_form(part, path + steps, kinds, name))
+    if expression[0] != "call" or kinds[path + (2,)][0] != "num":
+        return with_parts(expression, parts)
+    return ("take", name, parts[1], ("call", parts[0], ("name", name)))
+
+
+def value_form(program):
+    """The program in which each number is taken before it is handed."""
+    if not is_program(program):
+        raise BadProgram("no program")
+    name = _first_unused(standing_names(program))
+    made = _in_value_form(program, (), kinds_in(program, {}), name)
+    if not is_shaped(made):
+        raise BadExpression("too large")
+    return made
