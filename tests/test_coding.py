@@ -89,6 +89,15 @@ class Compiled(unittest.TestCase, Refusing):
         self.check_refusals(compiled, {"program": EXAMPLE}, [("program", NO_PROGRAMS, BadProgram)])
 
 
+def moved(row, by):
+    """A row of a code behind so many more rows, which bind one more thing."""
+    if row[0] == "take":
+        return ("take", row[1] + by)
+    if row[0] == "case":
+        return ("case", tuple(place + by for place in row[1]))
+    return row
+
+
 def inner_free():
     return take("q", number(1, 2), case(name("q"), number(0, 2), name("q")))
 
@@ -162,6 +171,28 @@ class SourceOf(unittest.TestCase, Refusing):
             deep = fun("x", N1, deep) if kind_of(fun("x", N1, deep)) else take("x", number(0, 1), deep)
         self.assertEqual(compiled(deep), compiled(source_of(compiled(deep))))
         self.check((("take", 2), ("number", 0, 1)) * 49 + (("number", 0, 1),), None)
+
+    def test_cases_of_one_way_and_of_six(self):
+        for k in range(1, 7):
+            program = case(draw(*[(0, 1)] * k), *[number(at, 6) for at in range(k)])
+            self.check(compiled(program), program)
+
+    def test_just_three_hundred_rows(self):
+        part = case(draw(*[(1, 6)] * 6), *[number(at, 6) for at in range(6)])
+        row = case(draw(*[(1, 6)] * 6), *[part] * 5, number(0, 6))
+        large = case(draw(*[(1, 6)] * 6), *[row] * 6)
+        self.assertEqual(260, len(compiled(large)))
+        for many in (18, 19, 20):
+            # Takes of two nodes each ahead of it, which binds nth(0), nth(1), ..
+            program = large
+            for at in reversed(range(many)):
+                program = take(nth(at), number(0, 1), program)
+            self.assertEqual(260 + 2 * many, len(compiled(program)))
+            self.check(compiled(program), program)
+        code = compiled(program)
+        self.assertEqual(300, len(code))
+        longer = (("take", 2), ("number", 0, 1)) + tuple(moved(row, 2) for row in code)
+        self.check(longer, None)
 
     def test_strange_values(self):
         for value in STRANGE:
