@@ -29,22 +29,22 @@ class Laying:
             self.rows.append(("grab", expression[2]))
             self.lay(expression[3], path + (3,), sight + (expression[1],))
         elif word == "call":
-            self._lay_call(expression, path, sight)
+            self._call_rows(expression, path, sight)
         elif word == "case":
-            self._lay_case(expression, path, sight)
+            self._case_rows(expression, path, sight)
         elif word == "take":
-            self._lay_take(expression, path, sight)
+            self._take_rows(expression, path, sight)
         else:
             self.rows.append(expression)
 
-    def _lay_call(self, expression, path, sight):
+    def _call_rows(self, expression, path, sight):
         at = len(self.rows)
         self.rows.append(None)
         self.lay(expression[1], path + (1,), sight)
         self.rows[at] = ("hand", len(self.rows), self.kinds[path + (2,)])
         self.lay(expression[2], path + (2,), sight)
 
-    def _lay_case(self, expression, path, sight):
+    def _case_rows(self, expression, path, sight):
         at = len(self.rows)
         self.rows.append(None)
         self.lay(expression[1], path + (1,), sight)
@@ -54,7 +54,7 @@ class Laying:
             self.lay(part, path + (2, number), sight)
         self.rows[at] = ("case", tuple(places))
 
-    def _lay_take(self, expression, path, sight):
+    def _take_rows(self, expression, path, sight):
         at = len(self.rows)
         self.rows.append(None)
         self.lay(expression[2], path + (2,), sight)

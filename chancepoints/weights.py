@@ -2,7 +2,7 @@
 
 from math import gcd
 
-from chancepoints.errors import BadNumber, BadWeight, BadWeights
+from chancepoints.errors import BadNumber, BadWeight
 from chancepoints.judging import is_list, is_tuple_of, is_whole
 
 NOTHING = (0, 1)
@@ -96,5 +96,5 @@ def is_below(one, other):
 def summed(weights):
     """The sum of a list of weights."""
     if not is_list(weights) or not all([is_weight(part) for part in weights]):
-        raise BadWeights("no list of weights")
+        raise BadWeight("no list of weights")
     return total(weights)

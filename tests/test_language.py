@@ -25,6 +25,8 @@ BARRED = set(
     " builtins compile copyright credits delattr dir eval exec exit gc getattr globals hasattr help"
     " id importlib license locals methodcaller os quit setattr super type vars sys".split()
 )
+BARRED_HEADS = ("_wall", "_pe_", "_dcw_", "_enum_", "_cm_", "_twin_re_", "_lay_", "_law_", "_stub_", "_sre", "_WallAttr")
+BARRED_WHOLE = ("_cold", "_tuplegetter", "_outside", "_record", "_written_out", "_member_names")
 ONCE = {"zip", "enumerate", "reversed", "range"}
 ITERATING = {"list", "tuple", "dict", "sorted", "sum", "any", "all", "enumerate", "zip", "min", "max"}
 STATEMENTS = (
@@ -226,6 +228,98 @@ class Names(unittest.TestCase):
         self.assertEqual(set(), stored & methods)
         self.assertEqual(set(), loaded - stored)
         self.assertEqual(set(), stored & METHODS)
+
+
+def names_of(root):
+    """All names in a tree, and those of attributes and methods among them."""
+    found, members = set(), set()
+    for node in ast.walk(root):
+        if isinstance(node, ast.Name):
+            found.add(node.id)
+        elif isinstance(node, ast.arg):
+            found.add(node.arg)
+        elif isinstance(node, ast.keyword) and node.arg:
+            found.add(node.arg)
+        elif isinstance(node, ast.alias):
+            found |= {node.name, node.asname or node.name}
+        elif isinstance(node, ast.ExceptHandler) and node.name:
+            found.add(node.name)
+        elif isinstance(node, ast.Attribute):
+            members.add(node.attr)
+        elif isinstance(node, ast.ClassDef):
+            found.add(node.name)
+            members |= {inner.name for inner in node.body if isinstance(inner, ast.FunctionDef)}
+    methods = [inner for node in ast.walk(root) if isinstance(node, ast.ClassDef) for inner in node.body]
+    for node in ast.walk(root):
+        if isinstance(node, ast.FunctionDef) and node not in methods:
+            found.add(node.name)
+    return found | members, members - found
+
+
+def is_plain(word, is_member=False):
+    """Whether rule L12 lets a name stand."""
+    if word in ("_", "__init__", "__eq__", "__len__"):
+        return True
+    heads = [head for head in BARRED_HEADS if head != "_wall" or not is_member]
+    if any(word.startswith(head) for head in heads):
+        return False
+    if word.rstrip("_0123456789") in BARRED_WHOLE:
+        return False
+    return re.fullmatch(r"_?[A-Za-z][A-Za-z0-9_]*", word) is not None
+
+
+class PlainNames(unittest.TestCase):
+    def test_each_name_of_the_package_is_plain(self):
+        for file in sources():
+            every, members = names_of(tree(file))
+            for word in every:
+                self.assertTrue(is_plain(word, word in members), (file, word))
+
+    def test_classes_begin_with_a_letter(self):
+        for file in sources():
+            for node in ast.walk(tree(file)):
+                if isinstance(node, ast.ClassDef):
+                    self.assertTrue(node.name[0].isalpha(), (file, node.name))
+
+    def test_the_wall_stands_nowhere(self):
+        for file in sources():
+            text = read(file).decode("ascii")
+            self.assertIsNone(re.search(r"\b_wall\b|\b_WallAttr\b", text), file)
+
+    def test_what_stands_alone_is_not_read(self):
+        for file in sources():
+            for node in ast.walk(tree(file)):
+                if isinstance(node, ast.Name) and node.id == "_":
+                    self.assertIsInstance(node.ctx, ast.Store, file)
+
+    def test_what_the_rule_forbids_is_refused(self):
+        for word in BARRED_HEADS + BARRED_WHOLE:
+            for tail in ("", "_", "1", "_1", "__2_"):
+                self.assertFalse(is_plain(word + tail), word + tail)
+        for head in BARRED_HEADS:
+            self.assertFalse(is_plain(head + "call"))
+            self.assertEqual(head == "_wall", is_plain(head + "s", True))
+        for word in ("_lay", "_layer", "_law", "_stubs", "_records", "_colder", "_cm", "lay_call", "_x", "x1", "_a_b"):
+            self.assertTrue(is_plain(word), word)
+        for word in ("__x", "__x__", "_1", "1x", "_"*2, "x\u00e9"):
+            self.assertFalse(is_plain(word), word)
+
+    def test_names_of_every_place_are_found(self):
+        text = """
+from a import _lay_import
+def _lay_function(_lay_parameter, *, _lay_keyword=1):
+    _lay_local = f(_lay_named=2)
+    for _lay_loop in [_lay_member for _lay_member in x._lay_attribute]:
+        lambda _lay_lambda: 1
+class _lay_Class:
+    def _lay_method(self):
+        def _lay_inner(): return 1
+"""
+        every, members = names_of(ast.parse(text))
+        words = "import function parameter keyword local named loop member attribute lambda Class method inner"
+        for word in words.split():
+            self.assertIn("_lay_" + word, every)
+        self.assertEqual({"_lay_attribute", "_lay_method"}, members)
 
 
 class Code(unittest.TestCase):

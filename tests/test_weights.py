@@ -4,7 +4,7 @@ import random
 import unittest
 from fractions import Fraction
 
-from chancepoints.errors import BadNumber, BadWeight, BadWeights, TooMany
+from chancepoints.errors import BadNumber, BadWeight, TooMany
 from chancepoints.weights import is_below, is_weight, less, plus, summed, times, weight
 from tests.helping import Refusing, STRANGE, nested
 
@@ -128,7 +128,7 @@ class Summed(unittest.TestCase, Refusing):
         lists = [part for part in STRANGE if part not in ([], ())]
         lists += [(1, 2), [1, 2], {(1, 2): 1}, {}, "12", [(1, 2), (2, 4)], [(1, 2), None], [[1, 2]]]
         lists += [((1, 2), (1, True)), [[(1, 2)]], [(1, 2), 1]]
-        self.check_refusals(summed, {"weights": []}, [("weights", lists, BadWeights)])
+        self.check_refusals(summed, {"weights": []}, [("weights", lists, BadWeight)])
 
 
 if __name__ == "__main__":
