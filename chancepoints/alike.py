@@ -51,8 +51,7 @@ def chances_in(kind, surrounding, table):
     check_table(kind, table)
     telling = Telling()
     # What is put in has this table wherever it stands, so no table with a call of it is made.
-    closed = telling.store.take_in(table, kind, ())
-    made = telling.table_of(surrounding, {PLACE: (None, closed)})
+    made = telling.table_of(surrounding, {PLACE: (None, telling.closed_table(table, kind))})
     rows = telling.store.tables[made][1]
     return tuple([row[0][1] if row else NOTHING for row in rows])
 

@@ -12,24 +12,42 @@ class Run:
     """A run up to some row, and the chance of what was drawn in it.
 
     A thing is a number, or a triple (place, sight, note) of where it is run, with what in
-    sight, and under which note it is known once it was run (None if it is run anew).
+    sight, and under which note it is known once it was run (None if it is run anew); or a
+    triple (None, v, note) of one of which nothing is known, so that it is asked.
     A frame is a tuple of its word, its places, and the sight and the pile that were there.
+    asks tells how often the things came to which numbers, by pairs (v, number).
     """
 
-    def __init__(self, place, sight, pile, frames, known, chance):
+    def __init__(self, place, sight, pile, chance):
         self.place = place
         self.sight = sight
         self.pile = pile
-        self.frames = frames
-        self.known = known
+        self.frames = []
+        self.known = {}
+        self.asks = {}
         self.chance = chance
 
     def fork(self, share):
         """A run like this one, behind a draw with this chance."""
-        known = {note: self.known[note] for note in self.known}
-        made = Run(self.place, self.sight, self.pile, list(self.frames), known, self.chance)
+        made = Run(self.place, self.sight, self.pile, self.chance)
+        made.frames = list(self.frames)
+        made.known = {note: self.known[note] for note in self.known}
+        made.asks = {ask: self.asks[ask] for ask in self.asks}
         made.draw(share)
         return made
+
+    def ask(self, thing, note, number):
+        """Go on behind an ask of a thing that came to number."""
+        self.asks[(thing, number)] = self.asks.get((thing, number), 0) + 1
+        if note is not None:
+            self.known[note] = number
+
+    def point(self):
+        """The point of all calls of what was asked."""
+        calls = []
+        for thing, number in sorted(self.asks):
+            calls.extend([(thing, (), number)] * self.asks[(thing, number)])
+        return tuple(calls)
 
     def draw(self, share):
         """Go on behind a draw with this chance."""
@@ -42,16 +60,23 @@ class Run:
 
 
 class Machine:
-    """Runs a code by a manner, and sums up the chances of its ends and of its rows."""
+    """Runs a code by a manner, and sums up the chances of its ends and of its rows.
 
-    def __init__(self, code, manner, k):
+    It is handed things of which nothing is known but to how many numbers each may come. By
+    value they are all asked ahead of the run; but nothing depends on when, so each is asked
+    when it is looked at, and an end stands for one branch for each way to ask the others.
+    """
+
+    def __init__(self, code, manner, k, things):
         self.code = code
         self.manner = manner
-        self.ends = [NOTHING] * k
+        self.things = things
+        self.ends = [{} for _ in range(k)]
         self.works = {word: NOTHING for word in WORDS}
         self.branches = 0
         self.notes = 0
-        self.pending = [Run(0, (), (), [], {}, ALL)]
+        handed = [(None, thing, self.new_note(("num", many))) for thing, many in enumerate(things)]
+        self.pending = [Run(0, (), tuple(handed), ALL)]
 
     def go(self):
         """Run all branches."""
@@ -73,15 +98,20 @@ class Machine:
                 work = multiplied(chance, (counts[word], 1))
                 self.works[word] = added(self.works[word], work)
 
-    def count_branch(self):
-        """Count an end of a branch."""
-        self.branches += 1
+    def count_branches(self, run):
+        """Count the branches that end where the run does."""
+        many = 1
+        if self.manner == "value":
+            asked = {thing: True for thing, _ in run.asks}
+            for thing, ways in enumerate(self.things):
+                many = many if thing in asked else many * ways
+        self.branches += many
         if self.branches > MOST_BRANCHES:
             raise TooMany(MOST_BRANCHES)
 
     def new_note(self, kind):
         """A new note for what is handed as one of this kind; None if it is run anew."""
-        if self.manner != "need" or kind[0] != "num":
+        if self.manner == "name" or kind[0] != "num":
             return None
         self.notes += 1
         return self.notes
@@ -102,8 +132,9 @@ class Machine:
             run.pile = pile
             _leave_frame(run, word, places, number)
             return True
-        self.count_branch()
-        self.ends[number] = added(self.ends[number], run.chance)
+        self.count_branches(run)
+        point = run.point()
+        self.ends[number][point] = added(self.ends[number].get(point, NOTHING), run.chance)
         return False
 
 
@@ -144,12 +175,22 @@ def _look(machine, run, row):
     place, sight, note = thing
     if note in run.known:
         return machine.give(run, run.known[note])
+    if place is None:
+        return _ask(machine, run, sight, note)
     if note is not None:
         # A number is handed nothing, so no pile has to be kept for it.
         run.wait("know", note)
     run.place = place
     run.sight = sight
     return True
+
+
+def _ask(machine, run, thing, note):
+    for number in range(machine.things[thing]):
+        made = run.fork(ALL)
+        made.ask(thing, note, number)
+        machine.go_behind(made, number)
+    return False
 
 
 def _number(machine, run, row):
@@ -168,7 +209,7 @@ def _draw(machine, run, row):
 
 
 def _never(machine, run, row):
-    machine.count_branch()
+    machine.count_branches(run)
     return False
 
 
@@ -190,8 +231,11 @@ STEPS = {
 }
 
 
-def machine_of(code, manner, k):
-    """A machine that has run all branches of a code that comes to one of k numbers."""
-    machine = Machine(code, manner, k)
+def machine_of(code, manner, k, things):
+    """A machine that has run all branches of a code that comes to one of k numbers.
+
+    things is a list that tells to how many numbers each thing that it is handed may come.
+    """
+    machine = Machine(code, manner, k, things)
     machine.go()
     return machine

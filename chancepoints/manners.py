@@ -6,6 +6,7 @@ from chancepoints.kinding import kind_for, kinds_in
 from chancepoints.machine import MANNERS, machine_of
 from chancepoints.nodes import is_shaped, nth_name, steps_and_parts, with_parts
 from chancepoints.terms import is_program, standing_names
+from chancepoints.weights import NOTHING
 
 
 def _machine_behind(program, manner):
@@ -17,12 +18,12 @@ def _machine_behind(program, manner):
         raise BadKind("the program is not of a number")
     if manner not in MANNERS:
         raise BadManner("none of the three words")
-    return machine_of(code_of(program), manner, kind[1])
+    return machine_of(code_of(program), manner, kind[1], [])
 
 
 def run_by(program, manner):
     """The tuple of the chances of the numbers of a program that is run by a manner."""
-    return tuple(_machine_behind(program, manner).ends)
+    return tuple([end.get((), NOTHING) for end in _machine_behind(program, manner).ends])
 
 
 def work_by(program, manner):

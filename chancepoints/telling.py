@@ -9,26 +9,32 @@ from chancepoints.weights import ALL, NOTHING
 class Telling:
     """Works out tables in one store of its own.
 
-    Names are told by a dict: from a name to the pair of a thing and its kind, or to the pair
-    of None and the number of the closed table of what the name stands for.
+    So many things are around all expressions. Names are told by a dict: from a name to the pair
+    of a thing and its kind, or to the pair of None and the number of the table, with the things
+    around all expressions, of what the name stands for.
     """
 
-    def __init__(self):
+    def __init__(self, around=0):
+        self.around = around
         self.store = Store()
         self.handing = Handing(self.store)
 
     def tables_of(self, expression, names):
         """The dict from all paths in the expression to the tables there, by their numbers.
 
-        The expression surely has a kind for names, and no things are around it.
+        The expression surely has a kind for names.
         """
         found = {}
-        self._tell(expression, names, 0, (), found)
+        self._tell(expression, names, self.around, (), found)
         return found
 
     def table_of(self, expression, names):
         """The number of the table of the expression."""
         return self.tables_of(expression, names)[()]
+
+    def closed_table(self, table, kind):
+        """The number of a closed table of this kind, as the document tells it, for names."""
+        return self.handing.moved(self.store.take_in(table, kind, ()), 0, self.around)
 
     def _tell(self, expression, names, around, path, found):
         word = expression[0]
@@ -66,7 +72,7 @@ class Telling:
     def _name_table(self, meant, around):
         thing, worth = meant
         if thing is None:
-            return self.handing.moved(worth, 0, around)
+            return self.handing.moved(worth, self.around, around - self.around)
         return self._checked(self.store.name_table(thing, worth, around))
 
     def _number_table(self, number, k):

@@ -58,12 +58,22 @@ def _note_free(expression, bound, found):
             _note_free(part, bound, found)
 
 
-def free_names(expression):
-    """The ascending list of the free names of an expression."""
-    check_expression(expression)
+def free_in(expression):
+    """The ascending list of the free names of what surely is an expression."""
     found = {}
     _note_free(expression, {}, found)
     return sorted(found)
+
+
+def free_names(expression):
+    """The ascending list of the free names of an expression."""
+    check_expression(expression)
+    return free_in(expression)
+
+
+def bound_in(expression):
+    """The ascending list of the names that a fun or take in it tells."""
+    return sorted({part[1] for _, part in all_parts(expression) if part[0] in ("fun", "take")})
 
 
 def standing_names(expression):
@@ -149,20 +159,25 @@ def with_part(expression, path, part):
     return made
 
 
-def with_free(expression, name, part):
-    """The expression with part in the place of each free name.
+def with_all_free(expression, exchanged):
+    """The expression with exchanged[x], of a dict, in the place of each free name x in it.
 
-    No free name of part may be bound in expression.
+    No free name of what is exchanged for a name may be bound in expression.
     """
-    if expression == ("name", name):
-        return part
+    if expression[0] == "name":
+        return exchanged.get(expression[1], expression)
     parts = []
     for steps, inner in steps_and_parts(expression):
-        if binds_at(expression, steps) and expression[1] == name:
-            parts.append(inner)
-        else:
-            parts.append(with_free(inner, name, part))
+        free = exchanged
+        if binds_at(expression, steps):
+            free = {name: exchanged[name] for name in exchanged if name != expression[1]}
+        parts.append(with_all_free(inner, free))
     return with_parts(expression, parts)
+
+
+def with_free(expression, name, part):
+    """The expression with part in the place of each free name."""
+    return with_all_free(expression, {name: part})
 
 
 def renamed(expression, path, name):

@@ -1,5 +1,6 @@
 """What the tests of single functions share: wrong values, and how refusals are looked at."""
 
+from chancepoints.books import Book
 from chancepoints.errors import TooMany
 
 DEPTH = 299
@@ -18,7 +19,7 @@ STRANGE = [
     ("name",), ("name", "call"), ["name", "x"], ("number", 2, 2), (1, 2, 3), (0, 2), (1, 0), ("", ""),
     nested(lambda part: (part,), ()), nested(lambda part: [part], []), nested(lambda part: {"x": part}, {}),
     nested(lambda part: ("to", part, part), ("num", 2)), nested(lambda part: ("call", part, part), ("name", "x")),
-    nested(lambda part: ("fun", "x", ("num", 2), part), ("name", "x"), 298), TooMany(4000),
+    nested(lambda part: ("fun", "x", ("num", 2), part), ("name", "x"), 298), TooMany(4000), Book(),
 ]
 
 

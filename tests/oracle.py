@@ -276,13 +276,27 @@ class Maker:
         return ("draw", random_weights(self.source, kind[1], self.whole))
 
 
+def parts_of(expression):
+    """The expressions that stand directly in this one."""
+    word = expression[0]
+    if word == "fun":
+        return [expression[3]]
+    if word == "call":
+        return [expression[1], expression[2]]
+    if word == "case":
+        return [expression[1]] + list(expression[2])
+    if word == "take":
+        return [expression[2], expression[3]]
+    return []
+
+
+def measured(expression):
+    """How many nodes and levels an expression has."""
+    inner = [measured(part) for part in parts_of(expression)]
+    return 1 + sum(many for many, _ in inner), 1 + max([level for _, level in inner], default=0)
+
+
 def is_small(expression):
-    """Whether an expression keeps the limits of nodes and levels, by its paths."""
-    def level(part):
-        inner = [level(node) for path, node in nodes(part) if path and is_one_step(path, part)]
-        return 1 + max(inner, default=0)
-    return len(nodes(expression)) <= 300 and level(expression) <= 50
-
-
-def is_one_step(path, expression):
-    return len(path) == (2 if expression[0] == "case" and path[0] == 2 else 1)
+    """Whether an expression keeps the limits of nodes and levels."""
+    many, levels = measured(expression)
+    return many <= 300 and levels <= 50

@@ -33,6 +33,7 @@ class Trial:
         self.manner = manner
         self.script = script
         self.read = 0
+        self.calls = []
         self.new_rows = {word: 0 for word in WORDS.values()}
 
     def done(self, expression):
@@ -70,10 +71,26 @@ class Trial:
     def use(self, thing, handed):
         if thing["known"] is not None:
             return thing["known"]
-        came = self.run(thing["expression"], thing["env"], handed)
+        if "asked" in thing:
+            came = self.ask(thing)
+        else:
+            came = self.run(thing["expression"], thing["env"], handed)
         if self.manner == "need" and thing["kind"][0] == "num":
             thing["known"] = came
         return came
+
+    def ask(self, thing):
+        came = self.choose([(1, 1)] * thing["kind"][1])
+        self.calls.append((thing["asked"], (), came))
+        return came
+
+    def handed_unknown(self, kinds):
+        """Things of which nothing is known; by value they are asked now."""
+        things = [{"kind": kind, "known": None, "asked": v} for v, kind in enumerate(kinds)]
+        if self.manner == "value":
+            for thing in things:
+                thing["known"] = self.ask(thing)
+        return things
 
     def choose(self, weights):
         choices = [(number, Fraction(*part)) for number, part in enumerate(weights) if part[0] > 0]
@@ -128,5 +145,24 @@ def all_trials(program, manner, k):
     return tuple(weight(part) for part in chances), told, branches
 
 
-def answer_of(kind):
-    return split(kind)[1]
+def asked_trials(program, manner, kind):
+    """The pair of the table of a program handed things that are asked, and of how many branches."""
+    kinds, k = split(kind)
+    rows = [{} for _ in range(k)]
+    branches = 0
+    waiting = [((), Fraction(1))]
+    while waiting:
+        script, chance = waiting.pop()
+        trial = Trial(manner, list(script))
+        try:
+            came = trial.run(program, {}, trial.handed_unknown(kinds))
+            point = tuple(sorted(trial.calls))
+            rows[came][point] = rows[came].get(point, 0) + chance
+            branches += 1
+        except NoAnswer:
+            branches += 1
+        except More as more:
+            for at, (_, part) in enumerate(more.choices):
+                waiting.append((script + (at,), chance * part))
+    table = tuple(tuple((point, weight(row[point])) for point in sorted(row)) for row in rows)
+    return table, branches
