@@ -3,21 +3,19 @@
 from math import comb
 
 from chancepoints.asking import asked_rows, check_manner, check_plain, check_plain_program, ways_of
-from chancepoints.errors import BadKind, BadProgram, BadSure, TooMany
+from chancepoints.errors import BadKind, BadSure, TooMany
 from chancepoints.kinding import kind_for
-from chancepoints.products import difference, put, with_value
-from chancepoints.terms import is_program
-from chancepoints.weights import ALL, added, multiplied, shortened, total
+from chancepoints.products import difference, parting_value, put
+from chancepoints.terms import check_program
+from chancepoints.weights import ALL, added, multiplied, total
 
 MOST_PRODUCTS = 4000
 
 
 def alike_by(one, other, manner):
     """Whether two programs of one plain kind have the same chances if run by this manner."""
-    if not is_program(one):
-        raise BadProgram("the first value is no program")
-    if not is_program(other):
-        raise BadProgram("the second value is no program")
+    check_program(one)
+    check_program(other)
     kind = kind_for(one, {})
     if kind_for(other, {}) != kind:
         raise BadKind("the programs have unlike kinds")
@@ -105,19 +103,6 @@ def agree(program, one, other, sure=False):
     return _first_difference(program, one, other, sure) is None
 
 
-def _parting_share(products, place, share):
-    """The pair of a weight up to share, and the sum with it in this place, unlike nothing."""
-    bottom = 1
-    while True:
-        # A sum of products is nothing for so many weights at most as its degree tells.
-        for top in range(1, bottom + 1):
-            worth = multiplied(share, shortened(top, bottom))
-            made = with_value(products, place, worth)
-            if made:
-                return worth, made
-        bottom += 1
-
-
 def parting(program, one, other, sure=False):
     """None if the manners agree; otherwise the weights of draws that part them."""
     _check_agreeing(program, one, other, sure)
@@ -132,7 +117,7 @@ def parting(program, one, other, sure=False):
                 top, bottom = total(weights)
                 weights.append(added(ALL, (-top, bottom)))
                 continue
-            worth, products = _parting_share(products, place, (1, len(own)))
+            worth, products = parting_value(products, place, (1, len(own)))
             weights.append(worth)
         found.append(tuple(weights))
     return tuple(found)

@@ -6,7 +6,7 @@ from chancepoints.kinds import check_kind, is_num
 from chancepoints.nodes import binds_at, is_shaped
 from chancepoints.tables import check_table
 from chancepoints.telling import Telling
-from chancepoints.terms import all_parts, chain_to, exchanged_at, is_program, with_free
+from chancepoints.terms import all_parts, chain_to, check_program, exchanged_at, is_program, with_free
 from chancepoints.weights import NOTHING
 
 PLACE = "h"
@@ -19,11 +19,6 @@ def _is_surrounding(kind, value):
 def _check_surrounding(kind, value):
     if not _is_surrounding(kind, value):
         raise BadSurrounding("no surrounding of the kind")
-
-
-def _check_program(value):
-    if not is_program(value):
-        raise BadProgram("no program")
 
 
 def is_surrounding(kind, value):
@@ -58,8 +53,8 @@ def chances_in(kind, surrounding, table):
 
 def _tables_of_both(one, other):
     """The store of the tables of two programs of one kind, and the numbers of both."""
-    _check_program(one)
-    _check_program(other)
+    check_program(one)
+    check_program(other)
     if kind_for(one, {}) != kind_for(other, {}):
         raise BadKind("the programs have unlike kinds")
     telling = Telling()
@@ -108,7 +103,7 @@ def _names_around(program, path, kinds):
 
 def exchanged(program, path, part):
     """The program with part in the place at path, and whether it is alike to program."""
-    _check_program(program)
+    check_program(program)
     chain_to(program, path)
     kinds = kinds_in(program, {})
     around = _names_around(program, path, kinds)
@@ -124,7 +119,7 @@ def exchanged(program, path, part):
 
 def lines(program):
     """The dict from all paths in a program to the size of the table of what is there."""
-    _check_program(program)
+    check_program(program)
     telling = Telling()
     found = telling.tables_of(program, {})
     return {path: telling.store.table_sizes[found[path]] for path in sorted(found)}
@@ -142,7 +137,7 @@ def _binders(program, path):
 
 def alike_parts(program):
     """The ascending list of pairs of paths of parts that may stand in the place of one another."""
-    _check_program(program)
+    check_program(program)
     tables = Telling().tables_of(program, {})
     kinds = kinds_in(program, {})
     lots = {}

@@ -1,12 +1,12 @@
 """Programs that are run by a manner, handed numbers of which nothing is known."""
 
 from chancepoints.coding import code_of
-from chancepoints.errors import BadKind, BadManner, BadProgram, TooMany
+from chancepoints.errors import BadKind, BadManner, TooMany
 from chancepoints.kinding import kind_for
 from chancepoints.kinds import arguments_and_answer, check_kind, is_num
 from chancepoints.machine import MANNERS, machine_of
 from chancepoints.tables import check_table
-from chancepoints.terms import is_program
+from chancepoints.terms import check_program
 from chancepoints.weights import NOTHING, added
 
 MOST_PAIRS = 4000
@@ -20,8 +20,7 @@ def check_plain(kind):
 
 def check_plain_program(program):
     """Raise BadProgram unless program is one, BadKind unless its kind is plain."""
-    if not is_program(program):
-        raise BadProgram("no program")
+    check_program(program)
     check_plain(kind_for(program, {}))
 
 

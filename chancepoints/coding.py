@@ -1,11 +1,10 @@
 """Code: a program as rows that tell each name by the place of its binding."""
 
-from chancepoints.errors import BadProgram
 from chancepoints.judging import is_same, is_whole
 from chancepoints.kinding import kinds_in
 from chancepoints.kinds import MOST_NUMBERS
 from chancepoints.nodes import MOST_LEVELS, MOST_NODES, nth_name
-from chancepoints.terms import is_program
+from chancepoints.terms import check_program, is_program
 
 
 def _place_of(name, sight):
@@ -71,8 +70,7 @@ def code_of(program):
 
 def compiled(program):
     """The code of a program."""
-    if not is_program(program):
-        raise BadProgram("no program")
+    check_program(program)
     return code_of(program)
 
 

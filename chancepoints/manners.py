@@ -1,18 +1,17 @@
 """Programs run by three manners: by name, by need and by value."""
 
 from chancepoints.coding import code_of
-from chancepoints.errors import BadExpression, BadKind, BadManner, BadProgram
+from chancepoints.errors import BadExpression, BadKind, BadManner
 from chancepoints.kinding import kind_for, kinds_in
 from chancepoints.machine import MANNERS, machine_of
 from chancepoints.nodes import is_shaped, nth_name, steps_and_parts, with_parts
-from chancepoints.terms import is_program, standing_names
+from chancepoints.terms import check_program, standing_names
 from chancepoints.weights import NOTHING
 
 
 def _machine_behind(program, manner):
     """A machine that has run the program by this manner."""
-    if not is_program(program):
-        raise BadProgram("no program")
+    check_program(program)
     kind = kind_for(program, {})
     if kind[0] != "num":
         raise BadKind("the program is not of a number")
@@ -50,8 +49,7 @@ def _in_value_form(expression, path, kinds, name):
 
 def value_form(program):
     """The program in which each number is taken before it is handed."""
-    if not is_program(program):
-        raise BadProgram("no program")
+    check_program(program)
     name = _first_unused(standing_names(program))
     made = _in_value_form(program, (), kinds_in(program, {}), name)
     if not is_shaped(made):

@@ -1,13 +1,11 @@
 """The table of a program."""
 
-from chancepoints.errors import BadProgram
 from chancepoints.telling import Telling
-from chancepoints.terms import is_program
+from chancepoints.terms import check_program
 
 
 def table(program):
     """The table of a program, with nothing around it."""
-    if not is_program(program):
-        raise BadProgram("no program")
+    check_program(program)
     telling = Telling()
     return telling.store.told(telling.table_of(program, {}))

@@ -1,6 +1,6 @@
 """Sums of products of powers: dicts from tuples of powers to weights, none of them nothing."""
 
-from chancepoints.weights import ALL, NOTHING, added, multiplied
+from chancepoints.weights import ALL, NOTHING, added, multiplied, shortened
 
 
 def put(products, powers, worth):
@@ -45,3 +45,19 @@ def with_value(products, place, worth):
         left = powers[:place] + (0,) + powers[place + 1:]
         put(found, left, multiplied(products[powers], kept[many]))
     return found
+
+
+def parting_value(products, place, most):
+    """The pair of a weight above nothing, up to most, and the sum with it in this place.
+
+    The sum is unlike nothing with it, as products is.
+    """
+    bottom = 1
+    while True:
+        # For so many weights at most as the greatest power there tells it is nothing.
+        for top in range(1, bottom + 1):
+            worth = multiplied(most, shortened(top, bottom))
+            made = with_value(products, place, worth)
+            if made:
+                return worth, made
+        bottom += 1

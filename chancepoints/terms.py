@@ -1,6 +1,6 @@
 """Expressions: their kinds, their names, and what stands where in them."""
 
-from chancepoints.errors import BadExpression, BadName, BadNames, BadPath
+from chancepoints.errors import BadExpression, BadName, BadNames, BadPath, BadProgram
 from chancepoints.judging import is_list, is_tuple_of, is_whole
 from chancepoints.kinding import kind_for
 from chancepoints.kinds import is_kind
@@ -46,6 +46,12 @@ def kind_of(expression, names=()):
 def is_program(value):
     """Whether any value is a program."""
     return is_shaped(value) and kind_for(value, {}) is not None
+
+
+def check_program(value):
+    """Raise BadProgram unless value is a program."""
+    if not is_program(value):
+        raise BadProgram("no program")
 
 
 def _note_free(expression, bound, found):

@@ -1,11 +1,11 @@
 """The chances of programs, worked out from their parts, without tables."""
 
-from chancepoints.errors import BadKind, BadProgram, BadThings
+from chancepoints.errors import BadKind, BadThings
 from chancepoints.judging import is_list
 from chancepoints.kinding import kind_for, kinds_in
 from chancepoints.kinds import arguments_and_answer
 from chancepoints.nodes import binds_at, steps_and_parts
-from chancepoints.terms import is_program
+from chancepoints.terms import check_program, is_program
 from chancepoints.weights import ALL, NOTHING, added, multiplied
 
 
@@ -146,14 +146,9 @@ class Weighing:
         return (None, tuple(found))
 
 
-def _check_program(program):
-    if not is_program(program):
-        raise BadProgram("no program")
-
-
 def chances_of(program):
     """The tuple of the chances of the numbers of a program whose kind has no arguments."""
-    _check_program(program)
+    check_program(program)
     if kind_for(program, {})[0] != "num":
         raise BadKind("the program is not of a number")
     weighing = Weighing()
@@ -162,7 +157,7 @@ def chances_of(program):
 
 def chances_with(program, things):
     """The tuple of the chances of the numbers of a program that is handed these programs."""
-    _check_program(program)
+    check_program(program)
     kinds = arguments_and_answer(kind_for(program, {}))[0]
     if not is_list(things) or len(things) != len(kinds):
         raise BadThings("no list of as many programs as the program wants")

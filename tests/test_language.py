@@ -9,7 +9,11 @@ import unittest
 HERE = os.path.dirname(os.path.abspath(__file__))
 PACKAGE = os.path.join(os.path.dirname(HERE), "chancepoints")
 
-LIBRARY = {"math": {"gcd", "lcm", "isqrt", "comb", "perm", "factorial"}}
+LIBRARY = {
+    "math": {"gcd", "lcm", "isqrt", "comb", "perm", "factorial"},
+    "itertools": {"accumulate", "chain", "pairwise"},
+    "collections": {"deque"},
+}
 BUILTINS = set(
     "len range enumerate zip min max sum abs sorted reversed int str bool bytes list tuple dict set"
     " frozenset isinstance ord repr any all divmod ValueError".split()
@@ -348,7 +352,10 @@ class Code(unittest.TestCase):
                 self.assertNotIsInstance(node.value, (float, complex, bytes), where)
                 if isinstance(node.value, str) and not is_doc(above[node]):
                     self.assertNotIn("%", node.value, where)
-            self.assertNotIsInstance(node, (ast.Div, ast.Mod, ast.Pow, ast.MatMult), where)
+            self.assertNotIsInstance(node, (ast.Div, ast.MatMult), where)
+            if isinstance(node, ast.BinOp) and isinstance(node.op, ast.Pow):
+                self.assertIsInstance(node.right, ast.Constant, where)
+                self.assertIn(node.right.value, range(65), where)
             self.assertNotIsInstance(node, (ast.GeneratorExp, ast.NamedExpr, ast.Set, ast.Await), where)
             self.assertNotIsInstance(node, (ast.Yield, ast.YieldFrom, ast.Global, ast.Delete), where)
 

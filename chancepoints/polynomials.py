@@ -1,0 +1,140 @@
+"""Polynomials of one thing: lists of wholes, the one at each place for this power.
+
+The last whole is unlike 0; the list of none of them is the polynomial that is nothing.
+"""
+
+from itertools import accumulate
+from math import gcd
+
+# A prime by which rests are told first, since they stay small so.
+PRIME = 2305843009213693951
+
+
+def trimmed(wholes):
+    """The polynomial of these wholes, without those behind the last one unlike 0."""
+    many = len(wholes)
+    while many > 0 and wholes[many - 1] == 0:
+        many -= 1
+    return wholes[:many]
+
+
+def shrunk(wholes):
+    """The polynomial divided by the greatest whole that divides all of it."""
+    common = 0
+    for part in wholes:
+        common = gcd(common, part)
+        if common == 1:
+            return wholes
+    return [part // common for part in wholes]
+
+
+def grown(wholes):
+    """How fast the polynomial grows."""
+    return [power * part for power, part in enumerate(wholes)][1:]
+
+
+def rest(one, other):
+    """The rest of one divided by the other one, times some whole, shrunk."""
+    left = list(one)
+    while len(left) >= len(other):
+        common = gcd(left[-1], other[-1])
+        own, factor = other[-1] // common, left[-1] // common
+        first = len(left) - len(other)
+        ahead = [own * part for part in left[:first]]
+        # The greatest powers of both have the same whole now, so they fall out.
+        behind = [own * part - factor * less for part, less in zip(left[first:-1], other[:-1])]
+        left = trimmed(ahead + behind)
+    return shrunk(left)
+
+
+def _inverse(whole):
+    """The whole with which this one, times it, leaves 1 by the prime."""
+    low, high = (0, PRIME), (1, whole)
+    while high[1] != 1:
+        times = low[1] // high[1]
+        low, high = high, (low[0] - times * high[0], low[1] - times * high[1])
+    return high[0] % PRIME
+
+
+def _rest_by_prime(one, other):
+    """The rest of one divided by the other one, wholes being told by the prime."""
+    left = list(one)
+    inverse = _inverse(other[-1])
+    while len(left) >= len(other):
+        factor = left[-1] * inverse % PRIME
+        first = len(left) - len(other)
+        behind = [(part - factor * less) % PRIME for part, less in zip(left[first:-1], other[:-1])]
+        left = trimmed(left[:first] + behind)
+    return left
+
+
+def _is_surely_simple(wholes):
+    """Whether the prime tells that the polynomial is nothing nowhere twice."""
+    one = [part % PRIME for part in wholes]
+    other = trimmed([part % PRIME for part in grown(wholes)])
+    if one[-1] == 0:
+        return False
+    while other:
+        one, other = other, _rest_by_prime(one, other)
+    return len(one) == 1
+
+
+def _quotient(one, other):
+    """One divided by the other one, both shrunk, which divides it."""
+    left = list(one)
+    found = []
+    while len(left) >= len(other):
+        times = left[-1] // other[-1]
+        found.append(times)
+        first = len(left) - len(other)
+        behind = [part - times * less for part, less in zip(left[first:-1], other[:-1])]
+        left = left[:first] + behind
+    return [found[-1 - at] for at in range(len(found))]
+
+
+def simple(wholes):
+    """A polynomial that is nothing at the same places, and nowhere twice; wholes is not nothing."""
+    if len(wholes) < 3 or _is_surely_simple(wholes):
+        return shrunk(wholes)
+    one, other = wholes, grown(wholes)
+    while other:
+        one, other = other, rest(one, other)
+    return shrunk(_quotient(shrunk(wholes), shrunk(one)))
+
+
+def changes(wholes):
+    """How often the sign changes from one whole to the next one, zeros being left out."""
+    found = 0
+    ahead = 0
+    for part in wholes:
+        if part != 0:
+            if part * ahead < 0:
+                found += 1
+            ahead = 1 if part > 0 else -1
+    return found
+
+
+def shifted(wholes):
+    """The polynomial of one more than the thing."""
+    left = list(reversed(wholes))
+    found = []
+    while left:
+        left = list(accumulate(left))
+        found.append(left.pop())
+    return found
+
+
+def halved(wholes):
+    """The polynomial of half the thing, times a whole."""
+    great = len(wholes) - 1
+    return [part << (great - power) for power, part in enumerate(wholes)]
+
+
+def sign_at(wholes, top, bottom):
+    """-1, 0 or 1 as the polynomial is below nothing, nothing or above it at top by bottom."""
+    found = 0
+    scale = 1
+    for part in reversed(wholes):
+        found = found * top + part * scale
+        scale *= bottom
+    return 0 if found == 0 else 1 if found > 0 else -1

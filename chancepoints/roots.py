@@ -1,0 +1,136 @@
+"""Where forms for one coin are 0, told by a grid of weights."""
+
+from math import lcm
+
+from chancepoints.coins import form_of, is_form_for, products_of
+from chancepoints.errors import BadBottom, BadForm, BadKind, BadNumber
+from chancepoints.judging import is_whole, is_within
+from chancepoints.kinding import kind_for
+from chancepoints.polynomials import changes, halved, shifted, shrunk, sign_at, simple
+from chancepoints.products import difference
+from chancepoints.terms import check_program
+from chancepoints.weights import shortened
+
+MOST_BOTTOM = 10 ** 6
+
+
+def _wholes_of(form):
+    """The polynomial of a form, made whole by a whole above 0."""
+    common = 1
+    for _, worth in form:
+        common = lcm(common, worth[1])
+    found = [0] * (form[-1][0][0] + 1)
+    for powers, worth in form:
+        found[powers[0]] = worth[0] * (common // worth[1])
+    return found
+
+
+def _sign(whole):
+    return 1 if whole > 0 else -1
+
+
+def _halves(wholes, first, level, waiting):
+    """Put both halves of an interval to what waits; whether the polynomial is 0 between them."""
+    left = shrunk(halved(wholes))
+    right = shifted(left)
+    is_root = right[0] == 0
+    waiting.append((left, 2 * first, level + 1))
+    waiting.append((right[1:] if is_root else right, 2 * first + 1, level + 1))
+    return is_root
+
+
+def _intervals(wholes):
+    """The list of triples (first, level, sign), for each place from 0 to 1, but for both ends, at
+    which a polynomial that is 0 nowhere twice, and not at 0, is 0.
+
+    The place is strictly between first and first + 1, by 2 ** level, and the only one there, and
+    sign is the polynomial's ahead of it; or it is first by 2 ** level, and sign is 0.
+    """
+    # By the rule of signs there is no such place above 0, or just one.
+    if changes(wholes) == 0:
+        return []
+    if changes(wholes) == 1:
+        return [(0, 0, _sign(wholes[0]))] if _sign(wholes[0]) * sum(wholes) < 0 else []
+    found = []
+    waiting = [(wholes, 0, 0)]
+    while waiting:
+        part, first, level = waiting.pop()
+        many = changes(shifted(list(reversed(part))))
+        if many == 1:
+            found.append((first, level, _sign(part[0])))
+        elif many > 1 and _halves(part, first, level, waiting):
+            found.append((2 * first + 1, level + 1, 0))
+    return found
+
+
+def _place_of(wholes, interval, bottom):
+    """The pair of the last weight of the grid up to a place of an interval, and 0 if it is there."""
+    first, level, sign = interval
+    scale = 1 << level
+    low = first * bottom // scale
+    if sign == 0:
+        return low, 0 if low * scale == first * bottom else 1
+    high = -(-(first + 1) * bottom // scale)
+    while high - low > 1:
+        middle = (low + high) // 2
+        found = sign_at(wholes, middle, bottom)
+        if found == 0:
+            return middle, 0
+        if found == sign:
+            low = middle
+        else:
+            high = middle
+    return low, 1
+
+
+def _roots(form, bottom):
+    """The roots of what surely is a form for one coin, and not ()."""
+    wholes = _wholes_of(form)
+    places = {}
+    if wholes[0] == 0:
+        places[(0, 0)] = 1
+        wholes = wholes[form[0][0][0]:]
+    wholes = simple(wholes)
+    if sum(wholes) == 0:
+        places[(bottom, 0)] = 1
+    for interval in _intervals(wholes):
+        place = _place_of(wholes, interval, bottom)
+        places[place] = places.get(place, 0) + 1
+    found = []
+    for at, between in sorted(places):
+        low, high = shortened(at, bottom), shortened(at + between, bottom)
+        found.append((low, high, places[(at, between)]))
+    return found
+
+
+def _check_bottom(bottom):
+    if not is_within(bottom, 1, MOST_BOTTOM):
+        raise BadBottom("no whole from 1 to 10 ** 6")
+
+
+def roots(form, bottom):
+    """Where a form for one coin is 0 from 0 to 1: triples of a low and a high place, and how often."""
+    if not is_form_for(1, form) or len(form) == 0:
+        raise BadForm("no form for one coin but ()")
+    _check_bottom(bottom)
+    return _roots(form, bottom)
+
+
+def _check_kinds(one, other):
+    """The number of the answers of two programs of one kind of a coin."""
+    check_program(one)
+    check_program(other)
+    kind = kind_for(one, {})
+    if kind != kind_for(other, {}) or kind[0] != "to" or kind[1] != ("num", 2) or kind[2][0] != "num":
+        raise BadKind("not the same kind of one coin")
+    return kind[2][1]
+
+
+def meeting(one, other, number, bottom):
+    """The coins for which two programs come to a number with the same chance; None for all."""
+    many = _check_kinds(one, other)
+    if not is_whole(number) or not 0 <= number < many:
+        raise BadNumber("no number to which the programs may come")
+    _check_bottom(bottom)
+    form = form_of(difference(products_of(one)[number], products_of(other)[number]))
+    return None if form == () else _roots(form, bottom)
