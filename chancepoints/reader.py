@@ -283,8 +283,10 @@ class Reader:
     def next_text(self):
         """What may stand next on the way to a right text; it is not at its end."""
         rest = _rest_of(self.slot, self.word)
+        if rest and self.word:
+            return rest
         if self.word:
-            return rest if rest else " "
+            return ")" if self._behind_word().slot == CLOSE else " "
         sort = self.slot[0]
         if sort == "close" or sort == "weight" and self.slot[2]:
             return ")"
