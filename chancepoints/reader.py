@@ -193,6 +193,15 @@ def _rest_of_new(word):
     return "x"
 
 
+def _rest_of_name(slot, word):
+    """What may stand behind a begun name of a slot for an expression."""
+    _, pattern, names, _ = slot
+    for name in names:
+        if name.startswith(word) and fits(pattern, names[name]):
+            return name[len(word):]
+    return None
+
+
 def _rest_of(slot, word):
     """What may stand behind a begun word in a slot; None if nothing that has a place there comes."""
     sort = slot[0]
@@ -201,16 +210,15 @@ def _rest_of(slot, word):
     if sort == "new":
         return _rest_of_new(word)
     if sort == "e":
-        told = [name for name in slot[2] if name.startswith(word) and fits(slot[1], slot[2][name])]
-    elif sort == "k":
-        told = [str(k) for k in numbers_of(slot[1])]
+        return _rest_of_name(slot, word)
+    told = []
+    if sort == "k":
+        told = numbers_of(slot[1])
     elif sort in ("words", "digits"):
-        told = [str(part) for part in slot[1]]
-    else:
-        told = []
+        told = slot[1]
     for part in told:
-        if part.startswith(word):
-            return part[len(word):]
+        if str(part).startswith(word):
+            return str(part)[len(word):]
     return None
 
 

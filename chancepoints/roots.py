@@ -11,7 +11,7 @@ from chancepoints.products import difference
 from chancepoints.terms import check_program
 from chancepoints.weights import shortened
 
-MOST_BOTTOM = 10 ** 6
+MOST_BOTTOM = 1000000
 
 
 def _wholes_of(form):
@@ -39,6 +39,15 @@ def _halves(wholes, first, level, waiting):
     return is_root
 
 
+def _many_between(wholes):
+    """How many places from 0 to 1, but for both ends, there may be; just so many if 0 or 1."""
+    # By the rule of signs. If it lets one place be above 0 there is one, there or behind 1.
+    many = changes(wholes)
+    if many == 1:
+        return 1 if _sign(wholes[0]) * sum(wholes) < 0 else 0
+    return many if many == 0 else changes(shifted(list(reversed(wholes))))
+
+
 def _intervals(wholes):
     """The list of triples (first, level, sign), for each place from 0 to 1, but for both ends, at
     which a polynomial that is 0 nowhere twice, and not at 0, is 0.
@@ -46,16 +55,11 @@ def _intervals(wholes):
     The place is strictly between first and first + 1, by 2 ** level, and the only one there, and
     sign is the polynomial's ahead of it; or it is first by 2 ** level, and sign is 0.
     """
-    # By the rule of signs there is no such place above 0, or just one.
-    if changes(wholes) == 0:
-        return []
-    if changes(wholes) == 1:
-        return [(0, 0, _sign(wholes[0]))] if _sign(wholes[0]) * sum(wholes) < 0 else []
     found = []
     waiting = [(wholes, 0, 0)]
     while waiting:
         part, first, level = waiting.pop()
-        many = changes(shifted(list(reversed(part))))
+        many = _many_between(part)
         if many == 1:
             found.append((first, level, _sign(part[0])))
         elif many > 1 and _halves(part, first, level, waiting):
@@ -90,9 +94,10 @@ def _roots(form, bottom):
     if wholes[0] == 0:
         places[(0, 0)] = 1
         wholes = wholes[form[0][0][0]:]
-    wholes = simple(wholes)
     if sum(wholes) == 0:
         places[(bottom, 0)] = 1
+    if _many_between(wholes) > 1:
+        wholes = simple(wholes)
     for interval in _intervals(wholes):
         place = _place_of(wholes, interval, bottom)
         places[place] = places.get(place, 0) + 1

@@ -3,15 +3,14 @@
 from chancepoints.errors import BadKind, BadTable, BadText
 from chancepoints.kinding import kind_for
 from chancepoints.kinds import check_kind, is_kind
-from chancepoints.nodes import LETTERS
-from chancepoints.reader import BLANKS, read_far
+from chancepoints.reader import read_far
 from chancepoints.rows import read_rows, rows_text
-from chancepoints.shares import DIGITS
 from chancepoints.tables import check_table, is_closed_table
 from chancepoints.terms import check_expression, told_names
 from chancepoints.wording import expression_text
 
-SIGNS = BLANKS + "()/" + DIGITS + LETTERS
+# All signs that may stand in right texts, ascending.
+SIGNS = "\n ()/0123456789abcdefghijklmnopqrstuvwxyz"
 
 
 def text(expression, names=()):
@@ -64,7 +63,7 @@ def completed(text, names=(), kind=None):
 def offers(text, names=(), kind=None):
     """The ascending list of the signs behind which the text still is a beginning."""
     reader = _reader_behind(text, names, kind)
-    return [sign for sign in sorted(SIGNS) if reader.after(sign) is not None]
+    return [sign for sign in SIGNS if reader.after(sign) is not None]
 
 
 def table_text(kind, table):

@@ -8,7 +8,8 @@ and so on. There is always a kind of a pattern.
 
 from chancepoints.kinds import MOST_NUMBERS, MOST_NUMS
 
-ANY = ((MOST_NUMS,), None)
+# MOST_NUMS nums at most, and any end.
+ANY = ((12,), None)
 
 
 def nums_of(kind):

@@ -37,11 +37,15 @@ def _text_at(expression, path, kinds):
         body = _text_at(expression[3], path + (3,), kinds)
         return f"(fun {expression[1]} {kind_text(expression[2])} {body})"
     if word == "call":
-        return f"(call {_text_at(expression[1], path + (1,), kinds)} {_text_at(expression[2], path + (2,), kinds)})"
+        called = _text_at(expression[1], path + (1,), kinds)
+        given = _text_at(expression[2], path + (2,), kinds)
+        return f"(call {called} {given})"
     if word == "case":
         asked = _text_at(expression[1], path + (1,), kinds)
         ways = [_text_at(part, path + (2, at), kinds) for at, part in enumerate(expression[2])]
-        return f"(case {len(ways)} {asked} {' '.join(ways)})"
+        behind = " ".join(ways)
+        return f"(case {len(ways)} {asked} {behind})"
     taken = _text_at(expression[2], path + (2,), kinds)
+    k = kinds[path + (2,)][1]
     body = _text_at(expression[3], path + (3,), kinds)
-    return f"(take {expression[1]} {kinds[path + (2,)][1]} {taken} {body})"
+    return f"(take {expression[1]} {k} {taken} {body})"

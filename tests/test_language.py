@@ -121,6 +121,16 @@ class Modules(unittest.TestCase):
                 else:
                     self.assertIsInstance(node, (ast.ImportFrom, ast.FunctionDef, ast.ClassDef))
 
+    def test_values_at_module_level_are_written_out(self):
+        for file in sources():
+            made = top_names(file)[0]
+            for node in tree(file).body:
+                if isinstance(node, ast.Assign):
+                    for inner in ast.walk(node.value):
+                        self.assertIsInstance(inner, (ast.Constant, ast.Tuple, ast.Dict, ast.Name, ast.Load), (file, node.lineno))
+                        if isinstance(inner, ast.Name):
+                            self.assertIn(inner.id, made, (file, node.lineno))
+
     def test_imports_name_the_file_that_defines(self):
         for file in sources():
             for node in imports(file):
