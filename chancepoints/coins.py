@@ -1,11 +1,12 @@
 """Programs that are handed coins, as forms: sums of products of the coins' powers."""
 
-from math import comb
+from math import comb, lcm
 
 from chancepoints.errors import BadCoins, BadForm, BadKind, BadMany, BadThing
 from chancepoints.judging import is_list, is_tuple_of, is_within
 from chancepoints.kinding import kind_for
 from chancepoints.kinds import arguments_and_answer
+from chancepoints.polynomials import raised
 from chancepoints.products import difference, parting_value, put
 from chancepoints.telling import Telling
 from chancepoints.terms import check_program
@@ -105,30 +106,34 @@ def forms(program):
     return [form_of(products) for products in products_of(program)]
 
 
-def raised(whole, many):
-    """A whole to a power, a whole from 0 on."""
-    found = 1
-    square = whole
-    while many > 0:
-        half = many // 2
-        if many > 2 * half:
-            found *= square
-        many = half
-        if many > 0:
-            square *= square
-    return found
+def _scaled_value(terms, coins, most):
+    """The value of a form whose weights are wholes, times the bottom of each coin to its most.
+
+    most tells the greatest power of each coin.
+    """
+    if not coins:
+        return terms[0][1]
+    top, bottom = coins[0]
+    ways = {}
+    for powers, whole in terms:
+        ways.setdefault(powers[0], []).append((powers[1:], whole))
+    found, scale, ahead = 0, 1, most[0]
+    for power in sorted(ways, reverse=True):
+        found *= raised(top, ahead - power)
+        scale *= raised(bottom, ahead - power)
+        found += scale * _scaled_value(ways[power], coins[1:], most[1:])
+        ahead = power
+    return found * raised(top, ahead)
 
 
 def _told_value(form, coins):
-    """The value of a form, all summands being brought to one bottom."""
+    """The value of a form, not (), all that is added being brought to one bottom."""
     most = [max([powers[at] for powers, _ in form]) for at in range(len(coins))]
-    top, bottom = 0, 1
-    for powers, worth in form:
-        part = worth[0]
-        for power, great, coin in zip(powers, most, coins):
-            part *= raised(coin[0], power) * raised(coin[1], great - power)
-        top, bottom = top * worth[1] + part * bottom, bottom * worth[1]
-        top, bottom = shortened(top, bottom)
+    bottom = 1
+    for _, worth in form:
+        bottom = lcm(bottom, worth[1])
+    terms = [(powers, worth[0] * (bottom // worth[1])) for powers, worth in form]
+    top = _scaled_value(terms, coins, most)
     for great, coin in zip(most, coins):
         bottom *= raised(coin[1], great)
     return shortened(top, bottom)

@@ -10,6 +10,27 @@ from math import gcd
 PRIME = 2305843009213693951
 
 
+def sign_of(whole):
+    """-1, 0 or 1 as a whole is below 0, 0 or above it."""
+    if whole == 0:
+        return 0
+    return 1 if whole > 0 else -1
+
+
+def raised(whole, many):
+    """A whole to a power, a whole from 0 on."""
+    found = 1
+    square = whole
+    while many > 0:
+        half = many // 2
+        if many > 2 * half:
+            found *= square
+        many = half
+        if many > 0:
+            square *= square
+    return found
+
+
 def trimmed(wholes):
     """The polynomial of these wholes, without those behind the last one unlike 0."""
     many = len(wholes)
@@ -108,9 +129,9 @@ def changes(wholes):
     ahead = 0
     for part in wholes:
         if part != 0:
-            if part * ahead < 0:
+            if sign_of(part) * ahead < 0:
                 found += 1
-            ahead = 1 if part > 0 else -1
+            ahead = sign_of(part)
     return found
 
 
@@ -137,4 +158,4 @@ def sign_at(wholes, top, bottom):
     for part in reversed(wholes):
         found = found * top + part * scale
         scale *= bottom
-    return 0 if found == 0 else 1 if found > 0 else -1
+    return sign_of(found)

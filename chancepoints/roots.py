@@ -1,12 +1,12 @@
 """Where forms for one coin are 0, told by a grid of weights."""
 
-from math import lcm
+from math import gcd, lcm
 
 from chancepoints.coins import form_of, is_form_for, products_of
 from chancepoints.errors import BadBottom, BadForm, BadKind, BadNumber
 from chancepoints.judging import is_whole, is_within
 from chancepoints.kinding import kind_for
-from chancepoints.polynomials import changes, halved, shifted, shrunk, sign_at, simple
+from chancepoints.polynomials import changes, halved, raised, shifted, shrunk, sign_at, sign_of, simple
 from chancepoints.products import difference
 from chancepoints.terms import check_program
 from chancepoints.weights import shortened
@@ -25,10 +25,6 @@ def _wholes_of(form):
     return found
 
 
-def _sign(whole):
-    return 1 if whole > 0 else -1
-
-
 def _halves(wholes, first, level, waiting):
     """Put both halves of an interval to what waits; whether the polynomial is 0 between them."""
     left = shrunk(halved(wholes))
@@ -44,7 +40,7 @@ def _many_between(wholes):
     # By the rule of signs. If it lets one place be above 0 there is one, there or behind 1.
     many = changes(wholes)
     if many == 1:
-        return 1 if _sign(wholes[0]) * sum(wholes) < 0 else 0
+        return 1 if sign_of(wholes[0]) * sum(wholes) < 0 else 0
     return many if many == 0 else changes(shifted(list(reversed(wholes))))
 
 
@@ -61,30 +57,50 @@ def _intervals(wholes):
         part, first, level = waiting.pop()
         many = _many_between(part)
         if many == 1:
-            found.append((first, level, _sign(part[0])))
+            found.append((first, level, sign_of(part[0])))
         elif many > 1 and _halves(part, first, level, waiting):
             found.append((2 * first + 1, level + 1, 0))
     return found
 
 
-def _place_of(wholes, interval, bottom):
-    """The pair of the last weight of the grid up to a place of an interval, and 0 if it is there."""
+def _side_of(wholes, interval, top, bottom):
+    """-1, 0 or 1 as top by bottom is ahead of, at or behind the place of an interval."""
     first, level, sign = interval
-    scale = 1 << level
-    low = first * bottom // scale
-    if sign == 0:
-        return low, 0 if low * scale == first * bottom else 1
-    high = -(-(first + 1) * bottom // scale)
+    scaled = top << level
+    if sign == 0 or scaled <= first * bottom:
+        return sign_of(scaled - first * bottom) if sign == 0 else -1
+    if scaled >= (first + 1) * bottom:
+        return 1
+    return -sign * sign_at(wholes, top, bottom)
+
+
+def _place_of(wholes, interval, bottom, power):
+    """The pair of the top of the last weight of the grid up to a place, and of 0 if it is there.
+
+    The place is the one whose power is the place of the interval. If it is not on the grid the
+    pair has 1.
+    """
+    low, high = 0, bottom
+    great = raised(bottom, power)
     while high - low > 1:
         middle = (low + high) // 2
-        found = sign_at(wholes, middle, bottom)
-        if found == 0:
+        side = _side_of(wholes, interval, raised(middle, power), great)
+        if side == 0:
             return middle, 0
-        if found == sign:
+        if side < 0:
             low = middle
         else:
             high = middle
     return low, 1
+
+
+def _common_power(wholes):
+    """The greatest whole that divides all powers that stand in a polynomial; 1 for none but 0."""
+    common = 0
+    for power, part in enumerate(wholes):
+        if part != 0:
+            common = gcd(common, power)
+    return max(common, 1)
 
 
 def _roots(form, bottom):
@@ -94,12 +110,15 @@ def _roots(form, bottom):
     if wholes[0] == 0:
         places[(0, 0)] = 1
         wholes = wholes[form[0][0][0]:]
+    # A polynomial of a power of the thing is one of this power, of a smaller degree.
+    power = _common_power(wholes)
+    wholes = wholes[::power]
     if sum(wholes) == 0:
         places[(bottom, 0)] = 1
     if _many_between(wholes) > 1:
         wholes = simple(wholes)
     for interval in _intervals(wholes):
-        place = _place_of(wholes, interval, bottom)
+        place = _place_of(wholes, interval, bottom, power)
         places[place] = places.get(place, 0) + 1
     found = []
     for at, between in sorted(places):

@@ -406,7 +406,7 @@ class Code(unittest.TestCase):
                     self.assertIsInstance(upper, (ast.For, ast.comprehension), (file, node.lineno))
 
     def test_keywords_of_builtins(self):
-        let = {"sorted": {"key"}, "min": {"key", "default"}, "max": {"key", "default"}}
+        let = {"sorted": {"key", "reverse"}, "min": {"key", "default"}, "max": {"key", "default"}}
         for file, node, _ in self.nodes():
             if isinstance(node, ast.Call) and isinstance(node.func, ast.Name) and node.func.id in BUILTINS:
                 words = {keyword.arg for keyword in node.keywords}

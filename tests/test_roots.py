@@ -227,6 +227,27 @@ class Roots(unittest.TestCase, Refusing):
         self.check(form_of(parts), 7, [((3, 7), (4, 7), 1)])
         self.check(form_of(parts), 2, [(HALF, HALF, 1)])
 
+    def test_powers_of_powers(self):
+        # Of c ** 1000 there are the places 1/2 and 1/3, of c ** 6 a double one, and 0 and 1.
+        two = times(product_of([Fraction(1, 2)]), product_of([Fraction(1, 3)]))
+        form = tuple(((1000 * at,), weight(part)) for at, part in enumerate(two))
+        for bottom in (2, 1000, 10 ** 6):
+            expected = told_between(Fraction(1, 3), 1000, bottom) + told_between(Fraction(1, 2), 1000, bottom)
+            if expected[0] == expected[1]:
+                expected = [expected[0][:2] + (2,)]
+            self.check(form, bottom, expected)
+        squared = times(product_of([Fraction(1, 64)] * 2), product_of([0, 1, 1]))
+        form = tuple(((6 * at,), weight(part)) for at, part in enumerate(squared) if part)
+        ends = [((0, 1), (0, 1), 1), (ALL, ALL, 1)]
+        self.check(form, 4, [ends[0], (HALF, HALF, 1), ends[1]])
+        self.check(form, 5, [ends[0], ((2, 5), (3, 5), 1), ends[1]])
+        for power in (1, 2, 3, 7):
+            for places in ([Fraction(1, 2)], [Fraction(1, 3), Fraction(2, 3)], [Fraction(1, 5), Fraction(2, 5), Fraction(1)]):
+                parts = product_of([v ** power for v in places])
+                form = tuple(((power * at,), weight(part)) for at, part in enumerate(parts))
+                for bottom in (1, 2, 3, 4, 15):
+                    self.check(form, bottom, told(places, bottom))
+
     def test_great_weights(self):
         great = 10 ** 79
         self.check((((0,), (-great, 1)), ((1,), (great + 1, 1))), 10 ** 6, [((999999, 10 ** 6), ALL, 1)])
