@@ -238,10 +238,12 @@ class Book:
         for lot in self.lots():
             for word in lot:
                 firsts[word] = lot[0]
-        made = Book()
+        left = {}
         for word in self._told:
             if firsts[word] == word:
-                made._told[word] = self._told[word].with_names(firsts)
+                left[word] = self._told[word].with_names(firsts)
+        made = Book()
+        made._told = left
         return made
 
     def copy(self):

@@ -169,6 +169,24 @@ class Agree(unittest.TestCase, Refusing):
         for sure in (True, False):
             self.check(fun("x", N3, case(X, X, X, number(0, 3))), "name", "need", sure, False)
 
+    def test_sums_of_high_degrees(self):
+        # What is asked again is one number: handed draws that are sure, all of them answer alike.
+        for many, ways in ((1, 2), (2, 2), (3, 2), (4, 2), (5, 2), (6, 2), (1, 3), (2, 3), (3, 3), (4, 3)):
+            idle = number(0, 2)
+            for _ in range(many):
+                idle = case(X, *[idle] * ways)
+            self.check(fun("x", num(ways), idle), "name", "value", True, True)
+            last = number(0, 2)
+            for _ in range(many):
+                last = case(X, *[number(1, 2)] * (ways - 1), last)
+            self.check(fun("x", num(ways), last), "name", "need", True, many == 1)
+            self.check(fun("x", num(ways), last), "name", "need", False, many == 1)
+            # The last number comes many times, or the others do: all in all that is sure.
+            both = case(X, *[idle] * (ways - 1), last)
+            program = fun("x", num(ways), case(X, idle, *[both] * (ways - 1)))
+            if is_small(program):
+                self.check(program, "need", "value", True, True)
+
     def test_calls(self):
         program = fun("x", N2, call(fun("y", N2, case(COIN, Y, number(0, 2))), X))
         self.check(program, "need", "value", False, False)

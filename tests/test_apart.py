@@ -12,7 +12,7 @@ from chancepoints.meaning import table
 from chancepoints.weighing import chances_of, chances_with
 from tests.helping import Refusing, STRANGE
 from tests.oracle import (
-    COIN, KINDS, Maker, call, case, draw, fun, is_small, measured, name, never, num, number, nums, split, to, weight,
+    COIN, KINDS, Maker, call, case, draw, fun, is_small, measured, name, never, nodes, num, number, nums, split, to, weight,
 )
 from tests.shapes import X
 from tests.test_kinds import WRONG as KINDS_WRONG
@@ -62,6 +62,10 @@ def vanishing(*seeds):
             return draw((top, bottom), (0, 1)) if worth * sign > 0 else never(N2)
         return case(X, part(left[1:], worth * 2 ** left[0], sign), part(left[1:], -worth * 3 ** left[0], sign))
     return fun("x", N2, part(seeds, 1, 1)), fun("x", N2, part(seeds, 1, -1))
+
+
+# Of its told surroundings more than half of the nodes are draws.
+MANY_DRAWS = to(to(*[to(N1, N6)] * 3, N1), N1)
 
 
 class Telling:
@@ -166,7 +170,7 @@ class Surroundings(unittest.TestCase, Refusing):
 
     def test_just_300_nodes_and_50_levels(self):
         found = []
-        for kind in HIGH + [to(to(F, F, F, N2), N2), to(to(to(N2, F, F, N2), N2), N2), to(to(F, N6), N2), to(*[F] * 5, N2)]:
+        for kind in HIGH + [to(to(F, F, F, N2), N2), to(to(to(N2, F, F, N2), N2), N2), to(to(F, N6), N2), to(*[F] * 5, N2), MANY_DRAWS]:
             for deep in range(1, 10):
                 for many in range(1, 10):
                     expected = Telling(deep, many, 1).surrounding(kind)
@@ -182,6 +186,12 @@ class Surroundings(unittest.TestCase, Refusing):
             self.check_equal(expected, told_surrounding(kind, deep, many, 1))
         else:
             self.assertEqual(300, self.refused(TooMany, told_surrounding, kind, deep, many, 1).most)
+
+    def test_many_draws(self):
+        expected = Telling(1, 8, 1).surrounding(MANY_DRAWS)
+        self.assertGreater(len([1 for _, node in nodes(expected) if node[0] == "draw" and node != COIN]), 150)
+        self.assertTrue(is_small(expected))
+        self.check(MANY_DRAWS, 1, 8, 1, expected)
 
     def test_too_many_at_once(self):
         # All of it would have 9 ** 11 testers.

@@ -260,6 +260,13 @@ class Slopes(unittest.TestCase, Refusing):
         for place in (6, -1, 10 ** 79, True, None):
             self.refused(BadThing, slope, (), place)
         self.refused(BadThing, slope, (((0,) * 6, ALL),), 6)
+        for many in range(1, 6):
+            form = (((2,) * many, ALL),)
+            for place in range(6):
+                if place < many:
+                    self.assertEqual((((2,) * place + (1,) + (2,) * (many - place - 1), (2, 1)),), slope(form, place))
+                else:
+                    self.refused(BadThing, slope, form, place)
         self.assertEqual((), slope((((0,) * 6, ALL),), 5))
 
 
