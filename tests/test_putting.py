@@ -110,6 +110,20 @@ class Handed(unittest.TestCase, Refusing):
             else:
                 self.assertEqual(4000, self.refused(TooMany, handed, kind, one, uses(power)).most)
 
+    def test_sizes_of_all_rows_are_taken_together(self):
+        # f and then x: what comes is what f is, in two or in three rows.
+        for k, many, told in ((2, 1999, True), (2, 2000, False), (3, 1332, True), (3, 1333, False)):
+            kind = to(N1, num(k))
+            rows = tuple(uses(many, 0)[0] for _ in range(k))
+            look = tuple(((((0, (uses(1, 1),), number),), ALL),) for number in range(k))
+            self.assertEqual(k * (many + 1), size(kind, rows))
+            if told:
+                self.assertEqual(rows, handed(to(kind, kind), look, rows))
+                self.assertEqual(rows, mixed(kind, [(1, 2), (1, 2)], [rows, rows]))
+            else:
+                self.assertEqual(4000, self.refused(TooMany, handed, to(kind, kind), look, rows).most)
+                self.assertEqual(4000, self.refused(TooMany, mixed, kind, [(1, 2), (1, 2)], [rows, rows]).most)
+
     def test_large_tables_that_come_to_little(self):
         kind = to(N1, N1, N1)
         large = uses(4500)
