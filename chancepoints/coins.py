@@ -128,11 +128,12 @@ def _scaled_value(terms, coins, most):
 
 def _told_value(form, coins):
     """The value of a form, not (), all that is added being brought to one bottom."""
-    most = [max([powers[at] for powers, _ in form]) for at in range(len(coins))]
+    most = [0] * len(coins)
     bottom = 1
-    for _, worth in form:
+    for powers, worth in form:
+        most = [max(one, other) for one, other in zip(most, powers)]
         bottom = lcm(bottom, worth[1])
-    terms = [(powers, worth[0] * (bottom // worth[1])) for powers, worth in form]
+    terms = [(pair[0], pair[1][0] * (bottom // pair[1][1])) for pair in form]
     top = _scaled_value(terms, coins, most)
     for great, coin in zip(most, coins):
         bottom *= raised(coin[1], great)

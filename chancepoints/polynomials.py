@@ -54,20 +54,6 @@ def grown(wholes):
     return [power * part for power, part in enumerate(wholes)][1:]
 
 
-def rest(one, other):
-    """The rest of one divided by the other one, times some whole, shrunk."""
-    left = list(one)
-    while len(left) >= len(other):
-        common = gcd(left[-1], other[-1])
-        own, factor = other[-1] // common, left[-1] // common
-        first = len(left) - len(other)
-        ahead = [own * part for part in left[:first]]
-        # The greatest powers of both have the same whole now, so they fall out.
-        behind = [own * part - factor * less for part, less in zip(left[first:-1], other[:-1])]
-        left = trimmed(ahead + behind)
-    return shrunk(left)
-
-
 def _inverse(whole):
     """The whole with which this one, times it, leaves 1 by the prime."""
     low, high = (0, PRIME), (1, whole)
@@ -101,26 +87,58 @@ def _is_surely_simple(wholes):
 
 
 def _quotient(one, other):
-    """One divided by the other one, both shrunk, which divides it."""
+    """One divided by the other one; None if no polynomial of wholes comes of it."""
     left = list(one)
     found = []
     while len(left) >= len(other):
         times = left[-1] // other[-1]
+        if times * other[-1] != left[-1]:
+            return None
         found.append(times)
         first = len(left) - len(other)
         behind = [part - times * less for part, less in zip(left[first:-1], other[:-1])]
         left = left[:first] + behind
-    return [found[-1 - at] for at in range(len(found))]
+    return None if trimmed(left) else list(reversed(found))
+
+
+def _joined(wholes, bits):
+    """The value of a polynomial at 1 << bits."""
+    found = 0
+    for part in reversed(wholes):
+        found = (found << bits) + part
+    return found
+
+
+def _parted(whole, bits):
+    """The polynomial with this value at 1 << bits whose wholes are as small as may be."""
+    found = []
+    while whole != 0:
+        part = whole & ((1 << bits) - 1)
+        if part >> (bits - 1):
+            part -= 1 << bits
+        found.append(part)
+        whole = (whole - part) >> bits
+    return found
+
+
+def _common(one, other):
+    """The greatest polynomial that divides both, which are shrunk."""
+    # Its value at a great place divides both values there. What these have in common besides is
+    # small, and is shrunk away; if the place is not great enough for it, a greater one is.
+    bits = max([part.bit_length() for part in one]) + 2
+    while True:
+        found = shrunk(_parted(gcd(_joined(one, bits), _joined(other, bits)), bits))
+        if _quotient(one, found) is not None and _quotient(other, found) is not None:
+            return found
+        bits += bits // 2
 
 
 def simple(wholes):
     """A polynomial that is nothing at the same places, and nowhere twice; wholes is not nothing."""
-    if len(wholes) < 3 or _is_surely_simple(wholes):
-        return shrunk(wholes)
-    one, other = wholes, grown(wholes)
-    while other:
-        one, other = other, rest(one, other)
-    return shrunk(_quotient(shrunk(wholes), shrunk(one)))
+    one = shrunk(wholes)
+    if len(one) < 3 or _is_surely_simple(one):
+        return one
+    return _quotient(one, _common(one, shrunk(grown(one))))
 
 
 def changes(wholes):

@@ -192,6 +192,14 @@ class Roots(unittest.TestCase, Refusing):
         self.check(form_of(times(squared, [Fraction(-1, 2), 1])), 2, [(HALF, HALF, 1), (HALF, ALL, 1)])
         self.check(form_of(times(squared, [1, 0, 1])), 1, [((0, 1), ALL, 1)])
 
+    def test_double_ones_of_many_digits(self):
+        source = random.Random(725)
+        for many, often in ((20, 3), (30, 2), (3, 12)):
+            places = [Fraction(source.randrange(1, 10 ** 20), 10 ** 20) for _ in range(many)]
+            for bottom in (1, 7, 10 ** 6):
+                self.check_places(places * often, bottom)
+            self.check_places(places * often + places[:2] + [0, 1, 1], 9)
+
     def test_random_forms_against_another_rule(self):
         source = random.Random(721)
         for _ in range(300):
