@@ -173,7 +173,10 @@ def sign_at(wholes, top, bottom):
     """-1, 0 or 1 as the polynomial is below nothing, nothing or above it at top by bottom."""
     found = 0
     scale = 1
-    for part in reversed(wholes):
-        found = found * top + part * scale
-        scale *= bottom
-    return sign_of(found)
+    done = 0
+    for at, part in enumerate(reversed(wholes)):
+        if part != 0:
+            scale *= raised(bottom, at - done)
+            found = found * raised(top, at - done) + part * scale
+            done = at
+    return sign_of(found * raised(top, len(wholes) - 1 - done))

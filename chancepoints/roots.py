@@ -12,6 +12,9 @@ from chancepoints.terms import check_program
 from chancepoints.weights import shortened
 
 MOST_BOTTOM = 1000000
+# From this degree on it takes less work to look for changes of sign at first.
+GREAT_DEGREE = 100
+FINEST = 20
 
 
 def _wholes_of(form):
@@ -23,6 +26,29 @@ def _wholes_of(form):
     for powers, worth in form:
         found[powers[0]] = worth[0] * (common // worth[1])
     return found
+
+
+def _row_of_intervals():
+    """The list of pairs (first, level) of intervals from 0 to 1, ever shorter ones towards 1."""
+    found = [(first, 6) for first in range(32)]
+    for level in range(1, FINEST):
+        beginning = 8 * ((2 << level) - 2)
+        found.extend([(beginning + at, level + 4) for at in range(8)])
+    return found
+
+
+def _intervals_by_signs(wholes, many):
+    """The intervals of the row in which the sign changes; None unless there are just so many."""
+    found = []
+    ahead = sign_of(wholes[0])
+    for first, level in _row_of_intervals():
+        sign = sign_at(wholes, first + 1, 1 << level)
+        if sign == 0:
+            return None
+        if sign != ahead:
+            found.append((first, level, ahead))
+        ahead = sign
+    return found if len(found) == many else None
 
 
 def _halves(wholes, first, level, waiting):
@@ -115,9 +141,15 @@ def _roots(form, bottom):
     wholes = wholes[::power]
     if sum(wholes) == 0:
         places[(bottom, 0)] = 1
-    if _many_between(wholes) > 1:
-        wholes = simple(wholes)
-    for interval in _intervals(wholes):
+    many = _many_between(wholes)
+    intervals = None
+    if many > 1 and len(wholes) > GREAT_DEGREE:
+        # As many changes of sign as there may be places tell them all.
+        intervals = _intervals_by_signs(wholes, many)
+    if intervals is None:
+        wholes = simple(wholes) if many > 1 else wholes
+        intervals = _intervals(wholes)
+    for interval in intervals:
         place = _place_of(wholes, interval, bottom, power)
         places[place] = places.get(place, 0) + 1
     found = []

@@ -256,6 +256,28 @@ class Roots(unittest.TestCase, Refusing):
                 for bottom in (1, 2, 3, 4, 15):
                     self.check(form, bottom, told(places, bottom))
 
+    def test_several_places_of_forms_of_great_degree(self):
+        half, third = Fraction(1, 2), Fraction(1, 3)
+        for great in (99, 101, 150, 151):
+            # c ** great less 1/2, times c less 1/3, or times c less 9/10.
+            for place in (third, Fraction(9, 10), Fraction(10 ** 7 - 1, 10 ** 7), half):
+                parts = times([-half] + [Fraction(0)] * (great - 1) + [Fraction(1)], [-place, Fraction(1)])
+                for bottom in (1, 3, 10, 1000):
+                    expected = sorted(told_between(half, great, bottom) + told([place], bottom), key=lambda part: [frac(part[0]), frac(part[1])])
+                    if len(expected) == 2 and expected[0] == expected[1]:
+                        expected = [expected[0][:2] + (2,)]
+                    self.check(form_of(parts), bottom, expected)
+        found = roots((((0,), (1, 10)), ((999,), (-1, 1)), ((2000,), ALL)), 10 ** 6)
+        self.assertEqual([997816, 997817, 999880, 999881], [int(frac(part) * 10 ** 6) for told_ in found for part in told_[:2]])
+        # A double place, and places beside one another, are not told by changes of sign.
+        parts = times(product_of([half, half]), [Fraction(1)] + [Fraction(0)] * 119 + [Fraction(1)])
+        self.check(form_of(parts), 3, [((1, 3), (2, 3), 1)])
+        near = [third, third + Fraction(1, 10 ** 9)]
+        self.check(form_of(times(product_of(near), [Fraction(1)] + [Fraction(0)] * 119 + [Fraction(1)])), 2, [((0, 1), HALF, 2)])
+        # On the row that is looked at there is one, too.
+        both = times(product_of([Fraction(5, 32), Fraction(7, 9)]), [Fraction(1)] + [Fraction(0)] * 119 + [Fraction(1)])
+        self.check(form_of(both), 32, told([Fraction(5, 32), Fraction(7, 9)], 32))
+
     def test_great_weights(self):
         great = 10 ** 79
         self.check((((0,), (-great, 1)), ((1,), (great + 1, 1))), 10 ** 6, [((999999, 10 ** 6), ALL, 1)])
