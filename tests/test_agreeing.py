@@ -13,11 +13,12 @@ from chancepoints.terms import kind_of
 from chancepoints.weights import is_weight
 from tests.helping import Refusing, STRANGE
 from tests.oracle import (
-    COIN, HALF, Maker, call, case, draw, frac, fun, is_small, name, never, nodes, num, number, split, take, to,
+    COIN, Maker, call, case, draw, frac, fun, is_small, name, never, nodes, num, number, split, take, to,
 )
 from tests.shapes import X
 from tests.test_asking import NOT_PLAIN, PLAIN, bare_program, plain_program
 from tests.test_manners import MANNERS, NO_PROGRAMS, TWICE, WRONG_MANNERS, fifths, taking
+from tests.test_meaning import JUST, OVER
 from tests.trials import asked_trials
 
 N1, N2, N3, N5, N6 = num(1), num(2), num(3), num(5), num(6)
@@ -86,7 +87,6 @@ class AlikeBy(unittest.TestCase, Refusing):
                 self.assertIs(expected, alike_by(one, other, manner))
 
     def test_large_tables(self):
-        from tests.test_meaning import JUST, OVER
         self.assertIs(True, alike_by(JUST, OVER, "need"))
         self.assertIs(False, alike_by(JUST, OVER, "name"))
 
@@ -251,7 +251,6 @@ class Agree(unittest.TestCase, Refusing):
         self.check(fun("x", N6, case(X, X, *[number(0, 6)] * 5)), "name", "need", True, False)
 
     def test_long_points(self):
-        from tests.test_meaning import JUST
         self.check(JUST, "name", "need", False, False)
         self.check(JUST, "name", "value", True, True)
         self.check(JUST, "need", "value", False, True)

@@ -9,7 +9,7 @@ from chancepoints.errors import (
 )
 from chancepoints.meaning import table
 from chancepoints.tables import own_table
-from chancepoints.terms import free_names, is_program, kind_of
+from chancepoints.terms import is_program, kind_of
 from tests.helping import Refusing, STRANGE
 from tests.oracle import (
     COIN, Maker, call, case, draw, fun, is_small, measured, name, never, nodes, num, number, table_of, take, to,

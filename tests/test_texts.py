@@ -253,13 +253,15 @@ class Beginnings(TextsCase):
         self.check_at(words + "(to 2 (", len(words) + 6, ())
 
     def test_kinds_of_too_many_nums(self):
-        for words, at in (
-            ("(fun x (to 2 (to 2 (to 2 (to 2 (to 2 (to 2 (to 2 (to 2 (to 2 (to 2 (", 67), ("(never " + "(to 2 " * 11, 73), ("(never " + "(to 2 " * 11 + "(", 73),
-            ("(never " + "(to " * 11, 51), ("(never " + "(to " * 11 + "(", 51), ("(never " + "(to " * 12, 51), ("(fun x " + "(to " * 10, 47),
-            ("(fun x " + "(to " * 11, 47), ("(fun x (to 2 2) (fun y (to " + "2 (to " * 8, 27 + 6 * 8 - 1),
+        for words in (
+            "(fun x (to 2 (to 2 (to 2 (to 2 (to 2 (to 2 (to 2 (to 2 (to 2 (to 2 (", "(never " + "(to 2 " * 11, "(never " + "(to 2 " * 11 + "(",
+            "(never " + "(to " * 11, "(never " + "(to " * 11 + "(", "(never " + "(to " * 12, "(fun x " + "(to " * 10, "(fun x " + "(to " * 11,
+            "(fun x (to 2 2) (fun y (to " + "2 (to " * 8,
         ):
-            expected = longest_beginning(words)
-            self.check_at(words, expected)
+            self.check_at(words, longest_beginning(words))
+        self.check_at("(never " + "(to 2 " * 11 + "(", 73)
+        self.check_at("(never " + "(to " * 12, 51)
+        self.check_at("(fun x " + "(to " * 11, 47)
         # A body of any kind has no more nums than are left.
         eleven = "(fun x " + "(to 2 " * 10 + "2" + ")" * 10 + " "
         self.check_at(eleven + "(f", len(eleven) + 1)
