@@ -16,7 +16,8 @@ def _is_surrounding(kind, value):
     return is_shaped(value) and is_num(kind_for(value, {PLACE: kind}))
 
 
-def _check_surrounding(kind, value):
+def check_surrounding(kind, value):
+    """Raise BadSurrounding unless value is a surrounding of what surely is a kind."""
     if not _is_surrounding(kind, value):
         raise BadSurrounding("no surrounding of the kind")
 
@@ -30,7 +31,7 @@ def is_surrounding(kind, value):
 def put_in(kind, surrounding, program):
     """The program that comes if the program is put into the surrounding."""
     check_kind(kind)
-    _check_surrounding(kind, surrounding)
+    check_surrounding(kind, surrounding)
     if not is_program(program) or kind_for(program, {}) != kind:
         raise BadProgram("no program of the kind")
     made = with_free(surrounding, PLACE, program)
@@ -42,7 +43,7 @@ def put_in(kind, surrounding, program):
 def chances_in(kind, surrounding, table):
     """The chances of the numbers of the surrounding if a thing with this table is put in."""
     check_kind(kind)
-    _check_surrounding(kind, surrounding)
+    check_surrounding(kind, surrounding)
     check_table(kind, table)
     telling = Telling()
     # What is put in has this table wherever it stands, so no table with a call of it is made.
@@ -51,7 +52,7 @@ def chances_in(kind, surrounding, table):
     return tuple([row[0][1] if row else NOTHING for row in rows])
 
 
-def _tables_of_both(one, other):
+def tables_of_both(one, other):
     """The store of the tables of two programs of one kind, and the numbers of both."""
     check_program(one)
     check_program(other)
@@ -64,7 +65,7 @@ def _tables_of_both(one, other):
 
 def alike(one, other):
     """Whether the tables of two programs of one kind are equal."""
-    _, first, second = _tables_of_both(one, other)
+    _, first, second = tables_of_both(one, other)
     return first == second
 
 
@@ -82,7 +83,7 @@ def _least_unlike(store, one, other):
 
 def first_unlike(one, other):
     """None if two programs of one kind are alike; else where their tables first differ."""
-    store, first, second = _tables_of_both(one, other)
+    store, first, second = tables_of_both(one, other)
     rows, opposites = store.tables[first][1], store.tables[second][1]
     for number, (row, opposite) in enumerate(zip(rows, opposites)):
         least = _least_unlike(store, row, opposite)

@@ -11,7 +11,6 @@ from chancepoints.weighing import Weighing
 MOST_TOLD = 9
 MOST_ROUNDS = 35
 EVEN = ("draw", ((1, 2), (1, 2)))
-TESTED = ("num", 1)
 
 
 class Primes:
@@ -43,30 +42,46 @@ class Primes:
 
 
 class Making:
-    """Makes the told things of one surrounding."""
+    """Makes the told things of one surrounding; a test comes to one of so many numbers as ends tells."""
 
     def __init__(self, deep, many, seed):
+        self.ends = 1
         self.deep = deep
         self.many = many
         self.primes = Primes(seed)
         self.draws = 0
 
-    def _weights(self, k, worth):
-        """So many next weights."""
+    def next_weights(self, k, worth):
+        """So many next weights, for one draw."""
         # Each draw is a node: with too many of them the rest needs not be made.
         self.draws += 1
         if self.draws > MOST_NODES:
             raise TooMany(MOST_NODES)
         return tuple([(1, worth * self.primes.following()) for _ in range(k)])
 
+    def answer_draw(self, k):
+        """A draw of an answer."""
+        return ("draw", self.next_weights(k, k))
+
+    def test_draw(self):
+        """A draw of what a test comes to."""
+        return ("draw", self.next_weights(1, 1))
+
+    def deeper(self, body, k):
+        """The body of a told thing, made once deeper."""
+        return ("case", EVEN, (self.answer_draw(k), ("case", ("name", "t"), (body,))))
+
     def thing(self, kind):
         """The told thing of a kind."""
         given, k = arguments_and_answer(kind)
         if not given:
-            return ("draw", self._weights(k, k))
+            return self.answer_draw(k)
         names = ["x" + LETTERS[at] for at in range(len(given))]
         test = self._test(names, given)
-        made = ("call", ("fun", "t", TESTED, self._body(k)), test)
+        body = self.answer_draw(k)
+        for _ in range(self.deep):
+            body = self.deeper(body, k)
+        made = ("call", ("fun", "t", ("num", self.ends), body), test)
         for name, part in reversed(list(zip(names, given))):
             made = ("fun", name, part, made)
         return made
@@ -83,40 +98,31 @@ class Making:
             given, j = arguments_and_answer(kind)
             for _ in range(self.many if given else 1):
                 asked = self.handed(("name", name), given)
-                ways = [("draw", self._weights(1, 1)) for _ in range(j)]
-                testers.append(("case", asked, tuple(ways)))
+                testers.append(("case", asked, tuple([self.test_draw() for _ in range(j)])))
         test = testers[-1]
         for tester in reversed(testers[:-1]):
             test = ("case", EVEN, (tester, test))
         return test
 
-    def _body(self, k):
-        body = ("draw", self._weights(k, k))
-        for _ in range(self.deep):
-            ends = ("draw", self._weights(k, k))
-            body = ("case", EVEN, (ends, ("case", ("name", "t"), (body,))))
-        return body
+    def surrounding(self, kind):
+        """The surrounding in which what is put in, of this kind, is handed told things."""
+        made = self.handed(("name", PLACE), arguments_and_answer(kind)[0])
+        if not is_shaped(made):
+            raise TooMany(MOST_NODES)
+        return made
 
 
-def _told(kind, deep, many, seed):
-    made = Making(deep, many, seed).handed(("name", PLACE), arguments_and_answer(kind)[0])
-    if not is_shaped(made):
-        raise TooMany(MOST_NODES)
-    return made
-
-
-def _check_number(value):
-    if not is_within(value, 1, MOST_TOLD):
+def check_told(kind, deep, many, seed):
+    """Raise an error unless these are a kind and the numbers of a round."""
+    check_kind(kind)
+    if not all([is_within(part, 1, MOST_TOLD) for part in (deep, many, seed)]):
         raise BadNumber("no whole from 1 to 9")
 
 
 def told_surrounding(kind, deep, many, seed):
     """The surrounding in which what is put in is handed told things."""
-    check_kind(kind)
-    _check_number(deep)
-    _check_number(many)
-    _check_number(seed)
-    return _told(kind, deep, many, seed)
+    check_told(kind, deep, many, seed)
+    return Making(deep, many, seed).surrounding(kind)
 
 
 def _rounds():
@@ -131,11 +137,11 @@ def _rounds():
     return found
 
 
-def _surrounding_of(kind, told):
+def _surrounding_of(tell, kind, told):
     """The told surrounding of a round; None if it is too large."""
     deep, many, seed = told
     try:
-        return _told(kind, deep, many, seed)
+        return tell(kind, deep, many, seed)
     except TooMany:
         return None
 
@@ -148,16 +154,22 @@ def _chances_put(surrounding, kind, program):
     return weighing.chances(node, {PLACE: thing}, ())
 
 
-def parted(one, other):
-    """None if two programs are alike; otherwise the first round that parts them, and how."""
-    if alike(one, other):
-        return None
+def first_parting(tell, one, other):
+    """The first round that parts two programs of one kind, its surrounding, and both chances.
+
+    tell is a function that tells the surrounding of a kind and a round.
+    """
     kind = kind_for(one, {})
     for told in _rounds():
-        surrounding = _surrounding_of(kind, told)
+        surrounding = _surrounding_of(tell, kind, told)
         if surrounding is not None:
             chances = _chances_put(surrounding, kind, one)
             others = _chances_put(surrounding, kind, other)
             if chances != others:
                 return told, surrounding, chances, others
     raise TooMany(MOST_ROUNDS)
+
+
+def parted(one, other):
+    """None if two programs are alike; otherwise the first round that parts them, and how."""
+    return None if alike(one, other) else first_parting(told_surrounding, one, other)

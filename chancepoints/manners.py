@@ -1,23 +1,20 @@
 """Programs run by three manners: by name, by need and by value."""
 
 from chancepoints.coding import code_of
-from chancepoints.errors import BadExpression, BadKind, BadManner
-from chancepoints.kinding import kind_for, kinds_in
+from chancepoints.errors import BadExpression, BadManner
+from chancepoints.kinding import kinds_in
 from chancepoints.machine import MANNERS, machine_of
 from chancepoints.nodes import is_shaped, nth_name, steps_and_parts, with_parts
-from chancepoints.terms import check_program, standing_names
+from chancepoints.terms import check_program, checked_answers, standing_names
 from chancepoints.weights import NOTHING
 
 
 def _machine_behind(program, manner):
     """A machine that has run the program by this manner."""
-    check_program(program)
-    kind = kind_for(program, {})
-    if kind[0] != "num":
-        raise BadKind("the program is not of a number")
+    many = checked_answers(program)
     if manner not in MANNERS:
         raise BadManner("none of the three words")
-    return machine_of(code_of(program), manner, kind[1], [])
+    return machine_of(code_of(program), manner, many, [])
 
 
 def run_by(program, manner):

@@ -109,6 +109,18 @@ def is_shaped(value):
     return True
 
 
+def measured(expression):
+    """The pair of how many nodes and how many levels what is built as an expression has."""
+    waiting = [(expression, 1)]
+    nodes = levels = 0
+    while waiting:
+        part, level = waiting.pop()
+        nodes += 1
+        levels = max(levels, level)
+        waiting.extend([(inner, level + 1) for _, inner in steps_and_parts(part)])
+    return nodes, levels
+
+
 def nth_name(at):
     """The name at this place, from 0, of the row a, b, .., z, aa, ab, .., az, ba, .."""
     if at < len(LETTERS):

@@ -1,6 +1,6 @@
 """Expressions: their kinds, their names, and what stands where in them."""
 
-from chancepoints.errors import BadExpression, BadName, BadNames, BadPath, BadProgram
+from chancepoints.errors import BadExpression, BadKind, BadName, BadNames, BadPath, BadProgram
 from chancepoints.judging import is_list, is_tuple_of, is_whole
 from chancepoints.kinding import kind_for
 from chancepoints.kinds import is_kind
@@ -52,6 +52,18 @@ def check_program(value):
     """Raise BadProgram unless value is a program."""
     if not is_program(value):
         raise BadProgram("no program")
+
+
+def checked_answers(program):
+    """To how many numbers a program of a number may come.
+
+    BadProgram is raised unless program is one, BadKind unless its kind is a num.
+    """
+    check_program(program)
+    kind = kind_for(program, {})
+    if kind[0] != "num":
+        raise BadKind("the program is not of a number")
+    return kind[1]
 
 
 def _note_free(expression, bound, found):

@@ -1,11 +1,11 @@
 """The chances of programs, worked out from their parts, without tables."""
 
-from chancepoints.errors import BadKind, BadThings
+from chancepoints.errors import BadThings
 from chancepoints.judging import is_list
 from chancepoints.kinding import kind_for, kinds_in
 from chancepoints.kinds import arguments_and_answer
 from chancepoints.nodes import binds_at, steps_and_parts
-from chancepoints.terms import check_program, is_program
+from chancepoints.terms import check_program, checked_answers, is_program
 from chancepoints.weights import ALL, NOTHING, added, multiplied
 
 
@@ -148,9 +148,7 @@ class Weighing:
 
 def chances_of(program):
     """The tuple of the chances of the numbers of a program whose kind has no arguments."""
-    check_program(program)
-    if kind_for(program, {})[0] != "num":
-        raise BadKind("the program is not of a number")
+    checked_answers(program)
     weighing = Weighing()
     return weighing.chances(weighing.take_in(program, {}), {}, ())
 
