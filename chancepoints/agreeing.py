@@ -7,7 +7,7 @@ from chancepoints.errors import BadKind, BadSure, TooMany
 from chancepoints.kinding import kind_for
 from chancepoints.products import difference, parting_value, put
 from chancepoints.terms import check_program
-from chancepoints.weights import ALL, added, multiplied, total
+from chancepoints.weights import ALL, multiplied, subtracted, total
 
 MOST_PRODUCTS = 4000
 
@@ -114,8 +114,7 @@ def parting(program, one, other, sure=False):
         weights = []
         for place in own:
             if sure and place == own[-1]:
-                top, bottom = total(weights)
-                weights.append(added(ALL, (-top, bottom)))
+                weights.append(subtracted(ALL, total(weights)))
                 continue
             worth, products = parting_value(products, place, (1, len(own)))
             weights.append(worth)

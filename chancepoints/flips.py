@@ -13,7 +13,7 @@ MOST_FLIPS = 400
 MOST_MADE = 6
 HALF = (1, 2)
 COIN = ("num", 2)
-SURELY = (((0,), ALL),)
+SURELY = (((0,), (1, 1)),)
 
 
 def _check_form(form):
@@ -105,7 +105,7 @@ def maker(form, many):
     return ("fun", "x", COIN, _tree(flips.shares(), 0, many))
 
 
-def _outside(form):
+def _off_bounds(form):
     """The first place at an end, or in the middle, that tells that no program makes a form."""
     for place in (NOTHING, ALL):
         told = value(form, [place])
@@ -130,7 +130,7 @@ def _touching(form, worth):
 def why_not(form):
     """None if some program makes a form; otherwise the first that tells that none does."""
     _check_form(form)
-    found = _outside(form)
+    found = _off_bounds(form)
     if form in ((), SURELY):
         return found
     for worth in (NOTHING, ALL):

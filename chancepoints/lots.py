@@ -4,21 +4,13 @@ from chancepoints.errors import BadExpression, BadKind, NoMaker, TooMany
 from chancepoints.kinds import is_kind, is_num
 from chancepoints.nodes import MOST_LEVELS, MOST_NODES
 from chancepoints.tables import check_table
-from chancepoints.weights import ALL, NOTHING, added, lies_below, shortened, total
+from chancepoints.weights import ALL, NOTHING, added, divided, lies_below, subtracted, total
 
 MOST_LOTS = 4000
 
 
 def _is_lot_kind(kind):
     return is_kind(kind) and kind[0] == "to" and is_num(kind[1]) and is_num(kind[2])
-
-
-def _less(weight, other):
-    return added(weight, (-other[0], other[1]))
-
-
-def _divided(weight, other):
-    return shortened(weight[0] * other[1], weight[1] * other[0])
 
 
 class Lots:
@@ -68,7 +60,7 @@ class Lots:
             for number in range(self.k):
                 if lot[number] > 0:
                     ahead = self.with_number(lot, number, -1)
-                    mass = added(mass, _less(self.masses[ahead], self.answering(ahead)))
+                    mass = added(mass, subtracted(self.masses[ahead], self.answering(ahead)))
             self.masses[lot] = mass
 
     def weights_of(self, lot):
@@ -111,7 +103,7 @@ class Making:
     def _draw(self, lot, whole, level):
         """A draw with the weights of a lot, by a whole."""
         self._count(1, level)
-        return ("draw", tuple([_divided(part, whole) for part in self.weighed.weights_of(lot)]))
+        return ("draw", tuple([divided(part, whole) for part in self.weighed.weights_of(lot)]))
 
     def _asking(self, lot, level):
         """Asks once more, and goes on behind the number that came."""
@@ -139,7 +131,7 @@ class Making:
         if answering == mass:
             return self._draw(lot, answering, level)
         self._count(2, level + 1)
-        shares = (_divided(answering, mass), _divided(_less(mass, answering), mass))
+        shares = (divided(answering, mass), divided(subtracted(mass, answering), mass))
         ways = (self._draw(lot, answering, level + 1), self._asking(lot, level + 1))
         return ("case", ("draw", shares), ways)
 

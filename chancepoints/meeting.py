@@ -4,7 +4,7 @@ from chancepoints.errors import BadTalks
 from chancepoints.judging import is_list
 from chancepoints.kinds import arguments_and_answer, check_kind
 from chancepoints.talks import check_talk, is_closed_talk
-from chancepoints.weights import ALL, NOTHING, added, multiplied, total
+from chancepoints.weights import ALL, NOTHING, added, multiplied, subtracted, total
 
 
 def _inner_talks(talk, kinds):
@@ -120,8 +120,7 @@ class Meeting:
             if way not in self.known:
                 return way
             _put_all(found, self.known[way], self.unasked, share)
-        top, bottom = total([share for share, _ in rows])
-        left = added(ALL, (-top, bottom))
+        left = subtracted(ALL, total([share for share, _ in rows]))
         if left != NOTHING:
             _put(found, (None, self.unasked), left)
         self.known[key] = found

@@ -6,7 +6,7 @@ from chancepoints.nodes import is_shaped, nth_name
 from chancepoints.products import powered
 from chancepoints.telling import Telling
 from chancepoints.terms import chain_to, checked_answers, exchanged_at, standing_names
-from chancepoints.weights import NOTHING, added, multiplied, shortened, total
+from chancepoints.weights import NOTHING, added, divided, multiplied, total
 
 MOST_PATHS = 4
 MOST_NUMBERS = 100
@@ -63,10 +63,6 @@ def opened(program, paths):
     return _opened(program, paths, _checked_draws(program, paths))
 
 
-def _divided(weight, other):
-    return shortened(weight[0] * other[1], weight[1] * other[0])
-
-
 def _drawn_row(store, row, draws):
     """The row of drawn of a kept row of what comes behind opened."""
     found = []
@@ -103,7 +99,7 @@ def _drawn_if(program, paths, number):
     whole = total([chance for _, chance in row])
     if whole == NOTHING:
         raise NoChance("the program never comes to the number")
-    return tuple([(point, _divided(chance, whole)) for point, chance in row]), draws
+    return tuple([(point, divided(chance, whole)) for point, chance in row]), draws
 
 
 def drawn_if(program, paths, number):
@@ -161,4 +157,4 @@ def believed(program, numbers):
     whole = total(found)
     if whole == NOTHING:
         raise NoChance("these numbers never come")
-    return tuple([_divided(chance, whole) for chance in found])
+    return tuple([divided(chance, whole) for chance in found])

@@ -11,7 +11,7 @@ So nothing in a state is ever changed, and many runs can go on from one.
 """
 
 from chancepoints.nodes import steps_and_parts
-from chancepoints.weights import ALL, NOTHING, added, total
+from chancepoints.weights import ALL, NOTHING, subtracted, total
 
 
 class Nodes:
@@ -105,8 +105,7 @@ def run_on(nodes, state):
 def choices(weights):
     """The list of pairs (number, chance) of all that a draw may come to, None for no answer."""
     found = [(number, share) for number, share in enumerate(weights) if share[0] > 0]
-    top, bottom = total(weights)
-    left = added(ALL, (-top, bottom))
+    left = subtracted(ALL, total(weights))
     if left != NOTHING:
         found.append((None, left))
     return found

@@ -64,7 +64,7 @@ class Branching:
         for number, share in choices(self.nodes.shapes[node][1]):
             state = ("end", None, None) if number is None else given(self.nodes, number, waiting)
             made.append((state, ((node, number), draws), multiplied(chance, share), many))
-        self.pending.extend(reversed(made))
+        self.pending.extend(list(reversed(made)))
 
     def told_draws(self, draws):
         """The tuple of pairs of a path to a draw and its number, in the order of the run."""

@@ -9,14 +9,10 @@ from chancepoints.products import put
 from chancepoints.stores import MOST_SIZE
 from chancepoints.telling import Telling
 from chancepoints.terms import check_program
-from chancepoints.weights import ALL, NOTHING, added, multiplied, total
+from chancepoints.weights import ALL, multiplied, subtracted, total
 
 HALF = (1, 2)
-SURELY = {(): ALL}
-
-
-def _less(weight, other):
-    return added(weight, (-other[0], other[1]))
+SURELY = {(): (1, 1)}
 
 
 class Assuring:
@@ -143,18 +139,18 @@ class SureMaking(Making):
     def answer_draw(self, k):
         """A draw of an answer, which always comes."""
         weights = self.next_weights(k - 1, 2 * k)
-        return ("draw", weights + (_less(ALL, total(weights)),))
+        return ("draw", weights + (subtracted(ALL, total(weights)),))
 
     def test_draw(self):
         """A draw of what a test comes to, which always comes."""
         weights = self.next_weights(1, 1)
-        return ("draw", weights + (_less(ALL, weights[0]),))
+        return ("draw", weights + (subtracted(ALL, weights[0]),))
 
     def deeper(self, body, k):
         """The body of a told sure thing, made once deeper."""
-        going_on = _less(HALF, self.next_weights(1, 4)[0])
+        going_on = subtracted(HALF, self.next_weights(1, 4)[0])
         testing = ("case", ("name", "t"), (body, ("number", k - 1, k)))
-        return ("case", ("draw", (going_on, _less(ALL, going_on))), (testing, self.answer_draw(k)))
+        return ("case", ("draw", (going_on, subtracted(ALL, going_on))), (testing, self.answer_draw(k)))
 
 
 def told_sure(kind, deep, many, seed):

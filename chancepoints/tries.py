@@ -9,7 +9,9 @@ from chancepoints.kinding import kind_for
 from chancepoints.kinds import MOST_NUMBERS, check_kind
 from chancepoints.nodes import LETTERS, measured
 from chancepoints.products import powered
-from chancepoints.weights import ALL, NOTHING, added, is_chance_part, is_weight, lies_below, multiplied, shortened, total
+from chancepoints.weights import (
+    ALL, NOTHING, added, is_chance_part, is_weight, lies_below, multiplied, shortened, subtracted, total,
+)
 
 MOST_TRIES = 40
 MOST_COUNTED = 8
@@ -17,10 +19,6 @@ MOST_NODES_COUNTED = 90
 MOST_LEVELS_COUNTED = 40
 HALF = (1, 2)
 ANSWERS = ("num", 2)
-
-
-def _less(weight, other):
-    return added(weight, (-other[0], other[1]))
 
 
 def _is_chance(value):
@@ -76,7 +74,7 @@ def _check_wish(one, other, wish):
 
 def _is_enough(great, small, bar, wish):
     """Whether the bar tells both by as much as is wished; great and small are their tries."""
-    if lies_below(great.at_least(bar), _less(ALL, wish)):
+    if lies_below(great.at_least(bar), subtracted(ALL, wish)):
         return False
     return not lies_below(wish, small.at_least(bar))
 
@@ -102,7 +100,7 @@ def _least_whole(weight):
 def enough_tries(one, other, wish):
     """The pair of tries and a bar that surely tell both chances apart."""
     _check_wish(one, other, wish)
-    apart = _less(one, other)
+    apart = subtracted(one, other)
     top, bottom = multiplied(wish, multiplied(apart, apart))
     tries = _least_whole((bottom, top))
     return tries, _least_whole(multiplied((tries, 1), multiplied(HALF, added(one, other))))
@@ -176,6 +174,6 @@ def counted(chances, number, tries, bar):
     _check_chances(chances)
     _check_counting(number, len(chances), tries, bar)
     wanted = chances[number]
-    others = _less(total(chances), wanted)
+    others = subtracted(total(chances), wanted)
     least = tries - bar + 1
     return _first_to(others, least, wanted, bar), _first_to(wanted, bar, others, least)

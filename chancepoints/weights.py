@@ -40,6 +40,16 @@ def multiplied(one, other):
     return shortened(one[0] * other[0], one[1] * other[1])
 
 
+def subtracted(one, other):
+    """One less the other; both are surely weights."""
+    return added(one, (-other[0], other[1]))
+
+
+def divided(one, other):
+    """One by the other one, which is not nothing; both are surely weights."""
+    return shortened(one[0] * other[1], one[1] * other[0])
+
+
 def lies_below(one, other):
     """Whether one is below other; both are surely weights."""
     return one[0] * other[1] < other[0] * one[1]
@@ -84,7 +94,7 @@ def times(one, other):
 def less(one, other):
     """One weight less the other."""
     _check_both(one, other)
-    return added(one, (-other[0], other[1]))
+    return subtracted(one, other)
 
 
 def is_below(one, other):
