@@ -160,35 +160,38 @@ def program_by_words(talk, kind, around=()):
     return made
 
 
-def meetings(talk, things):
+def meetings(talk, things, most=2000):
     """All that happens where a talk meets those of its own things: triples (answer, counts, chance).
 
-    A thing is a quadruple: its talk, how many things are around it, these, and its place among
-    those that are counted, or None.
+    A thing is a triple: its talk, the things around it, and its place among those that are
+    counted, or None. TooLarge is raised if it takes more than most steps.
     """
-    many = len(things)
-    told = [(part, 0, [], at) for at, part in enumerate(things)]
-    return go_on(talk, told, (0,) * many, lambda b, counts: [(b, counts, Fraction(1))])
+    left = [most]
+    told = [(part, [], at) for at, part in enumerate(things)]
+    return go_on(talk, told, (0,) * len(things), lambda b, counts: [(b, counts, Fraction(1))], left)
 
 
-def go_on(talk, sight, counts, then):
+def go_on(talk, sight, counts, then, left):
+    left[0] -= 1
+    if left[0] < 0:
+        raise TooLarge()
     if talk[0] == "answer":
         return then(talk[1], counts)
     if talk[0] == "none":
         return [(None, counts, Fraction(1))]
     if talk[0] == "draw":
         found = []
-        left = Fraction(1)
+        lost = Fraction(1)
         for part, row in talk[1]:
-            left -= frac(part)
-            found.extend([(b, more, frac(part) * chance) for b, more, chance in go_on(row, sight, counts, then)])
-        return found + ([(None, counts, left)] if left else [])
+            lost -= frac(part)
+            found.extend([(b, more, frac(part) * chance) for b, more, chance in go_on(row, sight, counts, then, left)])
+        return found + ([(None, counts, lost)] if lost else [])
     _, v, handed, rows = talk
-    asked, _, around, place = sight[v]
+    asked, around, place = sight[v]
     if place is not None:
         counts = counts[:place] + (counts[place] + 1,) + counts[place + 1:]
-    inner = list(around) + [(part, len(sight), sight, None) for part in handed]
-    return go_on(asked, inner, counts, lambda b, more: go_on(rows[b], sight, more, then))
+    inner = list(around) + [(part, sight, None) for part in handed]
+    return go_on(asked, inner, counts, lambda b, more: go_on(rows[b], sight, more, then, left), left)
 
 
 class TalkMaker:
