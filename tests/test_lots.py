@@ -268,6 +268,30 @@ class Made(unittest.TestCase, Refusing):
             else:
                 self.refused(BadExpression, made, F, told)
 
+    def test_just_50_levels(self):
+        # Each number of times x may be asked it answers with a little, so each ask is a level more.
+        kind = to(N1, N2)
+        for many in range(20, 30):
+            lots = {(0,) * at: (1, 100) for at in range(many)}
+            told = table_of(1, lots, {(0,) * many: (1, 3)})
+            expected = slow_made(kind, told)
+            if measured(expected)[1] <= 50:
+                self.check(kind, told, expected)
+            else:
+                self.refused(BadExpression, made, kind, told)
+        found = []
+        for many in range(20, 50):
+            # A mixture stands at the bottom, with asks alone ahead of it.
+            told = table_of(1, {(0,) * many: HALF, (0,) * (many + 1): (1, 3)}, {})
+            expected = slow_made(kind, told)
+            found.append(measured(expected)[1])
+            if found[-1] <= 50:
+                self.check_equal(expected, made(kind, told))
+            else:
+                self.refused(BadExpression, made, kind, told)
+        self.assertIn(50, found)
+        self.assertIn(51, found)
+
     def test_just_300_nodes(self):
         lots = {
             299: [(0,), (0, 0, 0, 1, 2), (0, 0, 0, 2, 2), (0, 0, 1, 2), (0, 1), (1, 2, 2, 2, 2)],

@@ -189,6 +189,16 @@ class SureTable(unittest.TestCase, Refusing):
             seen += expected != table(program)
         self.assertGreater(seen, 80)
 
+    def test_kinds_that_are_nearly_the_same(self):
+        # The last number of what is handed to what is handed is another one.
+        high, other = to(F, N2), to(to(N3, N2), N2)
+        two = call(name("f"), fun("x", N2, X))
+        three = call(name("g"), fun("y", N3, case(name("y"), ZERO, ONE, ONE)))
+        for kinds, body in [((high, other), case(two, three, ZERO)), ((other, high), case(three, two, ONE))]:
+            words = ("f", "g") if kinds[0] == high else ("g", "f")
+            program = fun(words[0], kinds[0], fun(words[1], kinds[1], body))
+            self.check(program, slow_sure(table(program), to(*kinds, N2)))
+
     def test_too_many(self):
         self.assertEqual(4000, self.refused(TooMany, sure_table, OVER).most)
         self.assertEqual(((((), ALL),),), sure_table(JUST))

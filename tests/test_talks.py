@@ -233,6 +233,34 @@ class TalkOf(unittest.TestCase, Refusing):
             else:
                 self.assertEqual(4000, self.refused(TooMany, talk_of, program).most)
 
+    def test_rows_through_draws_and_what_is_handed(self):
+        def composed(step, many, last):
+            # So many times 10 steps, and a few more.
+            ten = name("z")
+            for _ in range(10):
+                ten = step(ten)
+            made = number(0, 1)
+            for _ in range(many):
+                made = call(name("g"), made)
+            made = call(fun("g", to(N1, N1), made), fun("z", N1, ten))
+            for _ in range(last):
+                made = step(made)
+            return made
+        drawing_once = lambda part: case(draw(HALF), part)
+        asking_once = lambda part: call(name("f"), fun("u", N1, part))
+        high = to(to(N1, N1), N1)
+        for last, fits in ((9, True), (10, False)):
+            programs = [(composed(drawing_once, 9, last), ladder(91 + last))]
+            programs.append((fun("f", high, composed(asking_once, 9, last)), None))
+            for program, expected in programs:
+                if not fits:
+                    self.assertEqual(4000, self.refused(TooMany, talk_of, program).most)
+                    continue
+                talk = talk_of(program)
+                self.assertEqual(100, measured(talk)[1])
+                self.check_equal(Talker().talk_of(program, kind_of(program)), talk)
+                self.assertIn(expected, (None, talk))
+
     def test_refusals(self):
         self.check_refusals(talk_of, {"program": TWICE}, [("program", NO_PROGRAMS, BadProgram)])
 
