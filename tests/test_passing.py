@@ -327,6 +327,15 @@ class Passes(unittest.TestCase, Refusing):
             fitting = [told for told in passes(program) if told[1] == ()]
             self.assertEqual([("hand", ())] if size == 300 else [], fitting)
 
+    def test_programs_of_50_levels(self):
+        program, expected = draw((1, 1)), number(0, 1)
+        for _ in range(48):
+            program, expected = case(draw(HALF), program), case(draw(HALF), expected)
+        program, expected = fun("x", N2, program), fun("a", N2, expected)
+        self.assertEqual(50, measured(program)[1])
+        self.check(program, {("drawn", (3,) + (2, 0) * 48): expected})
+        self.assertEqual(expected, last_form(program))
+
     def of_nodes(self, many):
         made = ZERO
         while measured(made)[0] < many:
@@ -557,6 +566,45 @@ class LastForm(unittest.TestCase, Refusing):
         for _ in range(many):
             body = case(name("y"), body)
         return body
+
+    def nest(self, source, steps):
+        """An expression of num 1 with z in many places, none of them the first one of a case."""
+        def handing(part):
+            return fun("u", N1, part)
+        body = z = name("z")
+        for _ in range(steps):
+            body = source.choice([
+                lambda part: case(draw(HALF), part), lambda part: case(draw((1, 2), (1, 3)), part, z),
+                lambda part: case(draw((1, 2), (1, 3)), z, part), lambda part: call(name("f"), handing(part)),
+                lambda part: case(call(name("f"), handing(part)), z), lambda part: case(call(name("f"), handing(z)), part),
+                lambda part: call(name("g"), handing(part), handing(z)), lambda part: call(name("g"), handing(z), handing(part)),
+                lambda part: case(call(name("g"), handing(z), handing(part)), part if steps < 6 else z),
+            ])(body)
+        return body
+
+    def test_sizes_near_the_bounds(self):
+        source = random.Random(634)
+        inner = to(N1, N1)
+        seen = {}
+        for _ in range(2500):
+            body = self.nest(source, source.randrange(4, 30))
+            handed = number(0, 1)
+            for _ in range(source.randrange(1, 30)):
+                handed = case(draw(HALF), handed)
+            around = lambda part: fun("f", to(inner, N1), fun("g", to(inner, inner, N1), part))
+            program = around(call(fun("z", N1, body), handed))
+            expected = plain_names(around(put(body, "z", handed)))
+            many, levels = measured(expected)
+            if not is_small(program) or not (295 < many < 306 or 48 <= levels <= 53):
+                continue
+            if many <= 300 and levels <= 50:
+                self.check_equal(expected, last_form(program))
+            else:
+                self.assertEqual(300, self.refused(TooMany, last_form, program).most)
+            for key in (("nodes", many) if levels <= 50 else None, ("levels", levels) if many <= 300 else None):
+                seen[key] = seen.get(key, 0) + 1
+        for key in (("nodes", 299), ("nodes", 300), ("nodes", 301), ("nodes", 302), ("levels", 50), ("levels", 51)):
+            self.assertGreater(seen.get(key, 0), 0, key)
 
     def test_far_too_large(self):
         many = call(composed(fun("x", N2, case(COIN, X, X)), 40), COIN)
