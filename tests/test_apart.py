@@ -5,15 +5,15 @@ import unittest
 from fractions import Fraction
 
 from chancepoints import apart
-from chancepoints.alike import alike, chances_in, is_surrounding, put_in
+from chancepoints.alike import alike, chances_in, is_surrounding
 from chancepoints.apart import parted, told_surrounding
-from chancepoints.errors import BadExpression, BadKind, BadNumber, BadProgram, TooMany
+from chancepoints.errors import BadKind, BadNumber, BadProgram, TooMany
 from chancepoints.meaning import table
-from chancepoints.weighing import chances_of, chances_with
 from tests.helping import Refusing, STRANGE
 from tests.oracle import (
     COIN, KINDS, Maker, call, case, draw, fun, is_small, measured, name, never, nodes, num, number, nums, split, to, weight,
 )
+from tests.parting import Parting, rounds
 from tests.shapes import X
 from tests.test_kinds import WRONG as KINDS_WRONG
 from tests.test_manners import NO_PROGRAMS, TWICE
@@ -210,12 +210,7 @@ class Surroundings(unittest.TestCase, Refusing):
         ])
 
 
-def rounds():
-    found = [(a, b, c) for a in range(1, 8) for b in range(1, 8) for c in range(1, 8)]
-    return sorted(found, key=lambda told: (sum(told), told))[:35]
-
-
-class Parted(unittest.TestCase, Refusing):
+class Parted(unittest.TestCase, Refusing, Parting):
     def test_the_example(self):
         one, other = fun("x", N2, number(1, 2)), fun("x", N2, case(X, number(1, 2), number(1, 2)))
         surrounding = call(name("h"), draw((1, 4), (1, 6)))
@@ -230,35 +225,7 @@ class Parted(unittest.TestCase, Refusing):
         self.check_calls(parted, {"one": COIN, "other": never(N2)}, ((1, 1, 1), name("h"), ((1, 2), (1, 2)), ((0, 1), (0, 1))))
 
     def check_pair(self, kind, one, other):
-        found = parted(one, other)
-        if alike(one, other):
-            self.assertIsNone(found)
-            return None
-        told, surrounding, chances_one, chances_other = found
-        for ahead in rounds():
-            try:
-                expected = told_surrounding(kind, *ahead)
-            except TooMany:
-                self.assertNotEqual(ahead, told)
-                continue
-            pair = self.put(kind, expected, one), self.put(kind, expected, other)
-            if ahead == told:
-                break
-            self.assertEqual(*pair)
-        self.assertEqual(expected, surrounding)
-        self.check_equal((chances_one, chances_other), pair)
-        self.assertNotEqual(*pair)
-        return told
-
-    def put(self, kind, surrounding, program):
-        try:
-            return chances_of(put_in(kind, surrounding, program))
-        except BadExpression:
-            things = []
-            while surrounding != name("h"):
-                _, surrounding, thing = surrounding
-                things.insert(0, thing)
-            return chances_with(program, things)
+        return self.check_parting(kind, one, other, parted, told_surrounding, alike)
 
     def test_random_pairs(self):
         source = random.Random(431)

@@ -13,7 +13,7 @@ from chancepoints.lots import first_short, made, masses
 from chancepoints.meaning import table
 from chancepoints.terms import is_program, kind_of
 from tests.helping import Refusing, STRANGE
-from tests.oracle import COIN, HALF, Maker, call, case, draw, frac, fun, measured, name, never, num, number, to, weight
+from tests.oracle import COIN, HALF, Maker, case, draw, frac, fun, measured, name, never, num, to, weight
 from tests.shapes import X
 from tests.test_kinds import WRONG as KINDS_WRONG
 from tests.test_manners import TWICE

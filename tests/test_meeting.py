@@ -12,7 +12,7 @@ from tests.helping import Refusing, STRANGE, strange_but
 from tests.oracle import COIN, HALF, Maker, call, chances_of, frac, fun, is_small, name, num, number, split, to, weight
 from tests.talking import ANSWER0, ANSWER1, NONE, TalkMaker, TooLarge, ask, drawing, meetings
 from tests.test_kinds import WRONG as KINDS_WRONG
-from tests.test_manners import EXAMPLE, TWICE
+from tests.test_manners import EXAMPLE
 from tests.test_talks import TWICE_TALK, bush, ladder
 from tests.walks import all_walks
 

@@ -16,6 +16,7 @@ from tests.oracle import (
     COIN, HALF, KINDS, Maker, call, case, draw, fun, is_small, measured, name, never, nodes, num, number, split, take, to,
 )
 from tests.shapes import X
+from tests.talking import letters as letters_at
 from tests.test_manners import NO_PROGRAMS, composed, numbered
 from tests.test_runs import DRAWN
 from tests.walks import all_walks
@@ -74,15 +75,6 @@ class Namer:
                 return ("fun", x, expression[2], self.named(expression[3], inner))
             return ("take", x, self.named(expression[2], env), self.named(expression[3], inner))
         return rebuilt(expression, lambda part: self.named(part, env))
-
-
-def row_of_names(at):
-    word = ""
-    at += 1
-    while at > 0:
-        at, rest = divmod(at - 1, 26)
-        word = chr(ord("a") + rest) + word
-    return word
 
 
 def kind_in(expression, kinds):
@@ -161,7 +153,7 @@ def exchanged(expression, path, part):
 
 
 def plain_names(program):
-    return Namer(row_of_names).named(program)
+    return Namer(letters_at).named(program)
 
 
 def all_passes(program):
@@ -185,7 +177,7 @@ def slow_last_form(program, source, most=1500):
 
     def letters(_):
         fresh[0] += 1
-        return "v" + row_of_names(fresh[0])
+        return "v" + letters_at(fresh[0])
     steps = 0
     while True:
         program = Namer(letters).named(program)

@@ -5,19 +5,20 @@ import unittest
 from fractions import Fraction
 from math import comb
 
-from chancepoints.alike import alike, is_surrounding, put_in
+from chancepoints.alike import alike, is_surrounding
 from chancepoints.apart import parted, told_surrounding
-from chancepoints.errors import BadExpression, BadKind, BadNumber, BadProgram, TooMany
+from chancepoints.errors import BadKind, BadNumber, BadProgram, TooMany
 from chancepoints.meaning import table
 from chancepoints.sure import is_sure, sure_alike, sure_parted, sure_table, told_sure
 from chancepoints.tries import counted
-from chancepoints.weighing import chances_of, chances_with
+from chancepoints.weighing import chances_with
 from tests.helping import Refusing, STRANGE
 from tests.oracle import (
     COIN, HALF, KINDS, Maker, call, case, draw, frac, fun, is_small, measured, name, never, num, number, split, take, to, weight,
 )
+from tests.parting import Parting
 from tests.shapes import X
-from tests.test_apart import HIGH, PRIMES, rounds
+from tests.test_apart import HIGH, PRIMES
 from tests.test_kinds import WRONG as KINDS_WRONG
 from tests.test_manners import NO_PROGRAMS, TWICE
 from tests.test_meaning import JUST, OVER, used_times
@@ -395,37 +396,9 @@ def vanishing(*seeds):
     return fun("x", N2, part(seeds, Fraction(1), 1)), fun("x", N2, part(seeds, Fraction(1), -1))
 
 
-class SureParted(unittest.TestCase, Refusing):
+class SureParted(unittest.TestCase, Refusing, Parting):
     def check_pair(self, kind, one, other):
-        found = sure_parted(one, other)
-        if sure_alike(one, other):
-            self.assertIsNone(found)
-            return None
-        told, surrounding, first, second = found
-        for ahead in rounds():
-            try:
-                expected = told_sure(kind, *ahead)
-            except TooMany:
-                self.assertNotEqual(ahead, told)
-                continue
-            pair = self.put(kind, expected, one), self.put(kind, expected, other)
-            if ahead == told:
-                break
-            self.assertEqual(*pair)
-        self.assertEqual(expected, surrounding)
-        self.check_equal((first, second), pair)
-        self.assertNotEqual(*pair)
-        return told
-
-    def put(self, kind, surrounding, program):
-        try:
-            return chances_of(put_in(kind, surrounding, program))
-        except BadExpression:
-            things = []
-            while surrounding != name("h"):
-                _, surrounding, thing = surrounding
-                things.insert(0, thing)
-            return chances_with(program, things)
+        return self.check_parting(kind, one, other, sure_parted, told_sure, sure_alike)
 
     def test_by_hand(self):
         surrounding = call(name("h"), draw((1, 8), (7, 8)))
