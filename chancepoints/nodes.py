@@ -122,8 +122,15 @@ def measured(expression):
 
 
 def nth_name(at):
-    """The name at this place, from 0, of the row a, b, .., z, aa, ab, .., az, ba, .."""
-    if at < len(LETTERS):
-        return LETTERS[at]
-    ahead = at // len(LETTERS) - 1
-    return LETTERS[ahead] + LETTERS[at - len(LETTERS) * (ahead + 1)]
+    """The name at this place, from 0, of the row a, b, .., z, aa, ab, .., az, ba, .., zz, aaa, ..
+
+    So far on that a kept word would stand in the row, no expression has nodes enough to bind all
+    that is ahead; but of what turns out too large, names of any place may be asked for.
+    """
+    name = ""
+    left = at + 1
+    while left > 0:
+        ahead = (left - 1) // len(LETTERS)
+        name = LETTERS[left - 1 - len(LETTERS) * ahead] + name
+        left = ahead
+    return name

@@ -291,9 +291,13 @@ def parts_of(expression):
 
 
 def measured(expression):
-    """How many nodes and levels an expression has."""
-    inner = [measured(part) for part in parts_of(expression)]
-    return 1 + sum(many for many, _ in inner), 1 + max([level for _, level in inner], default=0)
+    """How many nodes and levels an expression has; level by level, so it may have thousands."""
+    row = [expression]
+    many = levels = 0
+    while row:
+        many, levels = many + len(row), levels + 1
+        row = [part for node in row for part in parts_of(node)]
+    return many, levels
 
 
 def is_small(expression):

@@ -400,6 +400,23 @@ class ProgramOf(unittest.TestCase, Refusing):
         self.assertNotIn("'al'", repr(made))
         self.assertEqual(talk, talk_of(made))
 
+    def test_things_for_all_of_which_no_expression_has_nodes(self):
+        # Nine things more are around at each level; from 78 levels on more than the 702 names of one or two letters.
+        kind = to(to(to(*[N1] * 9, N1), N1), N1)
+        for levels in (0, 1, 3, 4, 5, 28, 29, 60, 77, 78, 79, 90, 98):
+            for end in (ANSWER0, NONE, ask(9 * levels, ANSWER0, handed=[NONE] if levels == 0 else [])):
+                talk = end
+                for _ in range(levels):
+                    talk = ask(0, ANSWER0, handed=[talk])
+                self.assertIs(True, is_talk(kind, talk))
+                made = program_by_words(talk, kind)
+                many, row = nodes_and_levels(made)
+                if many <= 300 and row <= 50:
+                    self.check(kind, talk, made)
+                else:
+                    self.assertEqual(300 if many > 300 else 50, self.refused(TooMany, program_of, kind, talk).most)
+        self.assertEqual((98 * 13 + 4, 98 * 11 + 3), nodes_and_levels(made))
+
     def test_just_300_nodes(self):
         # A draw of r answers is a case, a draw and r numbers.
         def of(many):
